@@ -1,0 +1,1 @@
+"""kindtwice: which stretches of a log may be redone, by kinds."""

@@ -1,0 +1,213 @@
+"""[1] to [4]: the interface, arguments by position and by name, new results, and the limits."""
+
+import importlib
+import inspect
+import types
+import unittest
+
+from kindtwice.errors import InvalidCount, InvalidDeeds, InvalidKind, InvalidKinds, InvalidLog, InvalidMap
+from kindtwice.errors import InvalidPlace, InvalidSetting, InvalidTable, InvalidTwice, Refused
+from kindtwice.kinds import Kinds, bare_rows, is_bare, is_longest_bare, longest_bare, most_bare, power, put_all
+from kindtwice.settings import Setting, is_log, kind_between, kind_of, many_by_kind, may_redo, redo_points, renamed
+from tests.helping import LONG, ONE, PARITY, Case, once_again, put_together, strict, words_of
+
+METHODS = {
+    ("kindtwice.kinds", "Kinds"): {"table": [], "words": [], "put": ["one", "other"]},
+    ("kindtwice.settings", "Setting"): {"kinds": [], "deeds": [], "twice": []},
+}
+
+
+def parity():
+    return Kinds(dict(PARITY))
+
+
+def setting():
+    return Setting(parity(), {"a": "odd", "b": "even"}, ["even"])
+
+
+# The functions and classes of the interface, with right arguments under their names, in their order.
+FUNCTIONS = {
+    "kindtwice.kinds": {
+        "Kinds": lambda: {"table": dict(PARITY)},
+        "put_all": lambda: {"kinds": parity(), "row": ["odd", "even"]},
+        "opposite": lambda: {"kinds": parity()},
+        "own_squares": lambda: {"kinds": parity()},
+        "power": lambda: {"kinds": parity(), "kind": "odd", "number": 3},
+        "own_power": lambda: {"kinds": parity(), "kind": "odd"},
+        "coming_back": lambda: {"kinds": parity(), "kind": "odd"},
+        "is_bare": lambda: {"kinds": parity(), "row": ["odd"]},
+        "bare_rows": lambda: {"kinds": parity(), "number": 1},
+        "most_bare": lambda: {"kinds": parity()},
+        "longest_bare": lambda: {"kinds": parity()},
+        "is_longest_bare": lambda: {"kinds": parity(), "value": ["odd"]},
+    },
+    "kindtwice.settings": {
+        "Setting": lambda: {"kinds": parity(), "deeds": {"b": "even", "a": "odd"}, "twice": ["even"]},
+        "is_log": lambda: {"setting": setting(), "value": ["a"]},
+        "kind_of": lambda: {"setting": setting(), "log": ["a", "b"]},
+        "kind_between": lambda: {"setting": setting(), "log": ["a", "b"], "first": 0, "last": 1},
+        "many_by_kind": lambda: {"setting": setting(), "log": ["a", "b"]},
+        "redo_points": lambda: {"setting": setting(), "log": ["a", "b"]},
+        "may_redo": lambda: {"setting": setting(), "log": ["a", "b"], "first": 1, "last": 2},
+        "with_twice": lambda: {"setting": setting(), "twice": []},
+        "opposite_setting": lambda: {"setting": setting()},
+        "renamed": lambda: {"setting": setting(), "sent": {"a": "x", "b": "y"}},
+    },
+}
+WANTED = {
+    "put_all": "odd", "own_squares": ["even"], "power": "odd", "own_power": 2, "coming_back": (1, 2), "is_bare": True,
+    "bare_rows": [["odd"]], "most_bare": 1, "longest_bare": ["odd"], "is_longest_bare": True, "is_log": True,
+    "kind_of": "odd", "kind_between": "odd", "many_by_kind": {"even": 1, "odd": 2}, "redo_points": [1],
+    "may_redo": True,
+}
+# The error of each argument, wherever it stands; `value` is judged.
+ERRORS = {"table": InvalidTable, "kinds": InvalidKinds, "row": InvalidKinds, "kind": InvalidKind,
+          "number": InvalidCount, "deeds": InvalidDeeds, "twice": InvalidTwice, "setting": InvalidSetting,
+          "log": InvalidLog, "first": InvalidPlace, "last": InvalidPlace, "sent": InvalidMap}
+
+
+def all_functions():
+    for module, functions in FUNCTIONS.items():
+        for name, made in functions.items():
+            yield module, name, getattr(importlib.import_module(module), name), made
+
+
+def nested(depth):
+    """A list in a tuple in a dictionary in a list .., so deep."""
+    value = "even"
+    for at in range(depth):
+        value = [[value], (value,), {"even": value}][at % 3]
+    return value
+
+
+class Interface(unittest.TestCase):
+    def test_each_is_defined_under_its_module(self):
+        for module, name, function, _ in all_functions():
+            self.assertIsInstance(function, (types.FunctionType, type))
+            self.assertEqual((function.__module__, function.__name__), (module, name))
+
+    def test_methods_stand_in_the_class_itself(self):
+        for (module, name), methods in METHODS.items():
+            made = getattr(importlib.import_module(module), name)
+            for method, names in methods.items():
+                self.assertIn(method, vars(made))
+                self.assertEqual(list(inspect.signature(getattr(made, method)).parameters)[1:], names)
+            self.assertIn("__eq__", vars(made))
+
+    def test_arguments_have_the_names_of_the_interface_in_its_order(self):
+        for _, name, function, made in all_functions():
+            self.assertEqual(list(inspect.signature(function).parameters), list(made()), name)
+
+
+class Calls(Case):
+    def test_by_position_and_by_name(self):
+        for _, name, function, made in all_functions():
+            args = made()
+            by_position = self.told(function, *args.values())
+            self.same(self.told(function, **args), by_position)
+            self.same(self.told(function, **{key: args[key] for key in reversed(args)}), by_position)
+            if name in WANTED:
+                self.same(by_position, WANTED[name])
+
+    def test_equal_arguments_equal_results(self):
+        for _, _, function, made in all_functions():
+            self.same(function(**made()), function(**made()))
+
+    def test_results_do_not_change_with_what_was_passed(self):
+        for _, _, function, made in all_functions():
+            args = made()
+            result = function(*args.values())
+            picture = strict(result)
+            for value in args.values():
+                if isinstance(value, (list, dict)):
+                    value.clear()
+            self.assertEqual(strict(result), picture)
+
+    def test_wrong_arguments_deep_and_shallow(self):
+        for _, _, function, made in all_functions():
+            for name in made():
+                for value in [nested(depth) for depth in (1, 2, 3, 20, 40)]:
+                    args = made()
+                    args[name] = value
+                    if name == "value":
+                        self.tells(False, function, **args)
+                    elif strict(value) != strict(["even"]):
+                        self.raises(ERRORS[name], value, function, **args)
+
+    def test_all_arguments_wrong_from_one_on(self):
+        for _, _, function, made in all_functions():
+            names = list(made())
+            for at, name in enumerate(names):
+                if name == "value":
+                    continue
+                for wrong in (None, True, False, -1, "", (), {None: 0}, [[]], ["Odd"]):
+                    args = made()
+                    for later in names[at:]:
+                        args[later] = wrong
+                    self.raises(ERRORS[name], wrong, function, *args.values())
+                    self.raises(ERRORS[name], wrong, function, **args)
+
+    def test_a_refusal_comes_behind_all_other_errors(self):
+        self.raises(InvalidSetting, None, kind_of, None, [])
+        empty = []
+        self.raises(Refused, empty, kind_of, setting(), empty)
+
+    def test_a_call_that_raises_changes_nothing(self):
+        made = setting()
+        for _ in range(3):
+            with self.assertRaises(InvalidLog):
+                kind_of(made, ["a", "c"])
+            with self.assertRaises(InvalidTwice):
+                Setting(made.kinds(), made.deeds(), ["odd"])
+            with self.assertRaises(InvalidKind):
+                made.kinds().put("odd", "c")
+        self.same(made, setting())
+        self.assertEqual(made, setting())
+
+
+class Limits(Case):
+    """[3]: results at the limits come, and beyond them no error is raised for this alone."""
+
+    def test_four_kinds_six_deeds_sixty_deeds(self):
+        kinds = Kinds(LONG)
+        words = words_of(LONG)
+        made = Setting(kinds, dict(zip(["a", "bb", "abcdefgh", "d", "e", "f"], words + words)), ["a"])
+        self.assertEqual(len(made.deeds()), 6)
+        log = (["f", "e", "d", "abcdefgh", "bb"] * 12)[:60]
+        self.tells(True, is_log, made, log)
+        row = [made.deeds()[deed] for deed in log]
+        ends = {point: put_together(LONG, row[point:]) for point in range(60)}
+        self.tells(ends[0], kind_of, made, log)
+        self.tells("b", kind_between, made, log, 59, 60)
+        self.tells(False, may_redo, made, log, 59, 60)
+        self.tells(ends[0] == "a", may_redo, made, log, 0, 60)
+        self.tells([point for point in ends if ends[point] == "a"], redo_points, made, log)
+        self.assertEqual(sum(many_by_kind(made, log).values()), 1830)
+        self.same(renamed(made, dict(zip(made.deeds(), "zyxwvu"))).deeds(),
+                  {"u": "b", "v": "a", "w": "d", "x": "b", "y": "c", "z": "a"})
+
+    def test_rows_and_numbers(self):
+        kinds = Kinds(LONG)
+        self.tells("a", put_all, kinds, ["c", "d"] * 30)
+        self.tells(False, is_bare, kinds, ["c", "d"] * 30)
+        self.tells([], bare_rows, kinds, 60)
+        self.tells(["c", "c", "d", "c", "c"], longest_bare, kinds)
+        self.tells(5, most_bare, kinds)
+        self.tells(False, is_longest_bare, kinds, ["c", "d"] * 30)
+        self.tells("z", power, Kinds(once_again(2, 3)), "q", 10 ** 30 - 1 - (10 ** 30 - 1) % 3 + 1)
+
+    def test_beyond(self):
+        words = ["a", "b", "c", "d", "e", "f"]
+        kinds = Kinds({(one, other): max(one, other) for one in words for other in words})
+        made = Setting(kinds, {"x" + word: word for word in words} | {"y": "a", "z": "f"}, words)
+        log = ["xa", "xc", "xb"] * 100
+        self.tells("c", kind_of, made, log)
+        self.tells(list(range(300)), redo_points, made, log)
+        self.assertEqual(sum(many_by_kind(made, log).values()), 300 * 301 // 2)
+        self.tells("k", put_all, Kinds(ONE), ["k"] * 300)
+        self.tells([], bare_rows, Kinds(PARITY), 10 ** 30)
+        self.tells("odd", power, Kinds(PARITY), "odd", 10 ** 40 + 1)
+
+
+if __name__ == "__main__":
+    unittest.main()

@@ -1,0 +1,89 @@
+"""Those rules of the language that can be counted: files, sizes, characters, imports and names."""
+
+import ast
+import builtins
+import pathlib
+import unittest
+
+PACKAGE = pathlib.Path(__file__).resolve().parent.parent / "kindtwice"
+FILES = sorted(path for path in PACKAGE.rglob("*") if "__pycache__" not in path.parts)
+BARRED = {"type", "typing", "enum", "Enum", "Flag", "Generic", "Protocol", "ABC", "namedtuple", "NamedTuple"}
+LIBRARY = {"heapq", "math", "itertools", "collections"}
+
+
+def trees():
+    for path in FILES:
+        yield path.name, ast.parse(path.read_text(encoding="utf-8"))
+
+
+def bound_names(node):
+    """The names that a piece of code binds, attributes and methods apart."""
+    methods = [one for made in ast.walk(node) if isinstance(made, ast.ClassDef) for one in made.body]
+    for one in ast.walk(node):
+        if isinstance(one, ast.Name) and isinstance(one.ctx, ast.Store):
+            yield one.id
+        if isinstance(one, ast.arg):
+            yield one.arg
+        if isinstance(one, (ast.FunctionDef, ast.ClassDef)) and one not in methods:
+            yield one.name
+
+
+class Language(unittest.TestCase):
+    def test_l1_l14_files(self):
+        self.assertIn(PACKAGE / "__init__.py", FILES)
+        for path in FILES:
+            self.assertTrue(path.is_file() and path.suffix == ".py" and path.stem == path.stem.lower(), path)
+
+    def test_l10_sizes(self):
+        for path in FILES:
+            lines = path.read_text(encoding="utf-8").split("\n")
+            self.assertLessEqual(len(lines) - 1, 399, path)
+            self.assertLessEqual(max(map(len, lines)), 120, path)
+        for name, tree in trees():
+            for node in ast.walk(tree):
+                if isinstance(node, ast.FunctionDef):
+                    self.assertLessEqual(node.end_lineno - node.lineno + 1, 40, (name, node.name))
+
+    def test_l14_characters(self):
+        for path in FILES:
+            text = path.read_text(encoding="utf-8")
+            self.assertTrue(all(sign == "\n" or " " <= sign <= "~" for sign in text), path)
+
+    def test_l2_l16_imports(self):
+        for name, tree in trees():
+            for node in tree.body:
+                self.assertNotIsInstance(node, ast.Import, name)
+                if isinstance(node, ast.ImportFrom):
+                    self.assertEqual(node.level, 0, name)
+                    self.assertIn(node.module.split(".")[0], LIBRARY | {"kindtwice"}, name)
+                    self.assertTrue(all(alias.asname is None and alias.name != "*" for alias in node.names), name)
+
+    def test_l15_l17_names(self):
+        for name, tree in trees():
+            for bound in bound_names(tree):
+                self.assertFalse(hasattr(builtins, bound), (name, bound))
+                self.assertNotIn(bound, BARRED, name)
+
+    def test_l6_l7_statements_and_signs(self):
+        for name, tree in trees():
+            for node in ast.walk(tree):
+                self.assertNotIsInstance(node, (ast.Global, ast.Div, ast.AsyncFunctionDef), name)
+                if isinstance(node, ast.Constant):
+                    self.assertNotIsInstance(node.value, (float, complex), name)
+
+    def test_l7_lists_where_a_class_compares(self):
+        for name, tree in trees():
+            for node in ast.walk(tree):
+                if isinstance(node, ast.Call) and isinstance(node.func, ast.Name):
+                    if node.func.id in ("any", "all", "min", "max", "sum", "sorted"):
+                        self.assertFalse(any(isinstance(one, ast.GeneratorExp) for one in node.args), name)
+
+    def test_l17_l27_strings(self):
+        for name, tree in trees():
+            for node in ast.walk(tree):
+                if isinstance(node, ast.Constant) and isinstance(node.value, str):
+                    self.assertNotIn("%", node.value, name)
+
+
+if __name__ == "__main__":
+    unittest.main()
