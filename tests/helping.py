@@ -37,6 +37,7 @@ KLEIN = by_rule(["aa", "ab", "ba", "bb"],
 # Its one longest bare row has five kinds, and with four kinds none is longer: c c d c c.
 LONG = {(one, other): word for one, told in zip("abcd", ("aaad", "aaad", "aabd", "ddda"))
         for other, word in zip("abcd", told)}
+SETTING = Setting(Kinds(PARITY), {"a": "odd", "b": "even"}, ["even"])
 MANY_TABLES = (ONE, PARITY, DULL, FIRST_STAYS, LAST_STAYS, CHAIN, CORNERS, KLEIN, LONG,
                once_again(1, 3), once_again(1, 4), once_again(4, 1), once_again(2, 3), once_again(3, 2),
                once_again(2, 2))
@@ -147,6 +148,24 @@ def no_settings():
     """Objects that are no settings."""
     return [one for one in odd_objects() if not isinstance(one, Setting)] + [
         (Kinds(dict(PARITY)), {"a": "odd", "b": "even"}, ["even"]), Kinds(dict(PARITY)), {"a": "odd", "b": "even"}]
+
+
+def no_logs():
+    """Objects that are no logs of SETTING."""
+    return [one for one in odd_objects() if one != []] + [
+        ("a", "b"), ("a",), (), "a", "ab", ["a", "c"], ["c"], ["a", "A"], ["a", ""], ["a", None], ["a", ["b"]],
+        [["a", "b"]], ["ab"], ["odd"], ["even"], ["a", 0], [True], {"a": "odd"}, {0: "a"}, [("a",)], [{"a": 1}],
+        ["a", Kinds(PARITY)], ["a "], [Setting(Kinds(ONE), {"a": "k"}, [])],
+    ]
+
+
+def kinds_in(setting, log):
+    return [setting.deeds()[deed] for deed in log]
+
+
+def long_log(setting, number):
+    deeds = list(setting.deeds())
+    return [deeds[(at * at + at // 3) % len(deeds)] for at in range(number)]
 
 
 def subsets(words):

@@ -25,6 +25,48 @@ log = ["a", "b", "b", "a"]
 [is_log(setting, []), is_log(setting, ["c"]), with_twice(setting, []).twice(), renamed(setting, {"a": "on", "b": "off"}).deeds()]
 # [True, False, [], {'off': 'even', 'on': 'odd'}]
 ''',
+    "section 5": '''
+from kindtwice.kinds import Kinds
+from kindtwice.rows import is_row, is_scarce_row, longest_row, most_by_kind, most_stretches, scarce_row, shortened, sure_stretches
+from kindtwice.settings import Setting
+parity = Kinds({("even", "even"): "even", ("even", "odd"): "odd", ("odd", "even"): "odd", ("odd", "odd"): "even"})
+setting = Setting(parity, {"a": "odd", "b": "even"}, ["even"])
+log = ["a", "b", "b", "a", "a", "b", "a", "b"]
+[most_stretches(setting, log), longest_row(setting, log), most_by_kind(setting, log), is_row(setting, log, ("even", [1, 3, 6])), is_row(setting, log, ("even", [0, 1]))]
+# [4, ('even', [1, 2, 3, 5, 6]), {'even': 4}, True, False]
+[shortened(setting, log, ("even", [1, 2, 3, 5, 6]), 1, 4), [sure_stretches(parity, number) for number in [1, 2, 3, 4, 5, 6]], is_scarce_row(parity, 3, scarce_row(parity, 3))]
+# [['a', 'b', 'a', 'b'], [0, 1, 1, 2, 2, 3], True]
+''',
+    "section 6": '''
+from kindtwice.kinds import Kinds
+from kindtwice.settings import Setting
+from kindtwice.trees import are_heights, bound_of, greatest_height, height_of, heights, is_least_tree, is_tree, kind_by, knots_of, least_height, log_of, low_tree, opposite_tree, pairs_alone
+parity = Kinds({("even", "even"): "even", ("even", "odd"): "odd", ("odd", "even"): "odd", ("odd", "odd"): "even"})
+setting = Setting(parity, {"a": "odd", "b": "even"}, ["even"])
+tree = ("pair", "a", ("pair", ("run", "even", ["b", "b", "b", "b"]), "a"))
+[is_tree(setting, tree), log_of(setting, tree), kind_by(setting, tree), height_of(setting, tree), is_tree(setting, ("run", "odd", ["a", "a"]))]
+# [True, ['a', 'b', 'b', 'b', 'b', 'a'], 'even', 3, False]
+[least_height(setting, ["a", "b", "b", "a"]), is_least_tree(setting, log_of(setting, tree), tree), bound_of(parity), pairs_alone(setting, ["b"] * 33), least_height(setting, ["b"] * 33)]
+# [2, True, 5, 6, 1]
+[height_of(setting, low_tree(setting, ["a", "b", "a"] * 40)) <= 5, pairs_alone(setting, ["a", "b", "a"] * 40), heights(setting, ["b", "b", "b"]), are_heights(setting, ["b", "a"], {(0, 1): 0, (0, 2): 2, (1, 2): 0})]
+# [True, 7, {(0, 1): 0, (0, 2): 1, (0, 3): 1, (1, 2): 0, (1, 3): 1, (2, 3): 0}, False]
+[[greatest_height(parity, number) for number in [1, 2, 3, 4, 5, 6]], knots_of(setting, tree)[:4], opposite_tree(setting, ("pair", "a", "b"))]
+# [[0, 1, 2, 2, 3, 3], [(0, 6, 3), (0, 1, 0), (1, 6, 2), (1, 5, 1)], ('pair', 'b', 'a')]
+''',
+    "section 7": '''
+from kindtwice.kinds import Kinds
+from kindtwice.looks import are_looks, fewest_looks, fitting, knots_with, least_looks, most_looks, with_deed
+from kindtwice.settings import Setting
+parity = Kinds({("even", "even"): "even", ("even", "odd"): "odd", ("odd", "even"): "odd", ("odd", "odd"): "even"})
+setting = Setting(parity, {"a": "odd", "b": "even", "c": "even"}, ["even"])
+tree = ("pair", "a", ("pair", ("run", "even", ["b", "b", "b", "b"]), "a"))
+[least_looks(setting, tree, 0, 3), least_looks(setting, tree, 2, 4), fewest_looks(setting, tree, 1, 6), most_looks(setting, tree)]
+# [[(0, 1, 'odd'), (1, 3, 'even')], [(2, 4, 'even')], 1, 2]
+[are_looks(setting, tree, 2, 4, [(2, 3, "even"), (3, 4, "even")]), are_looks(setting, tree, 0, 2, [(0, 2, "odd")]), knots_with(setting, tree, 2), fitting(setting, tree, 2), fitting(setting, tree, 0)]
+# [True, False, [(0, 6, 3), (1, 6, 2), (1, 5, 1), (2, 3, 0)], ['b', 'c'], ['a', 'b', 'c']]
+with_deed(setting, tree, 2, "c")
+# ('pair', 'a', ('pair', ('run', 'even', ['b', 'c', 'b', 'b']), 'a'))
+''',
 }
 
 

@@ -5,11 +5,12 @@ import inspect
 import types
 import unittest
 
-from kindtwice.errors import InvalidCount, InvalidDeeds, InvalidKind, InvalidKinds, InvalidLog, InvalidMap
-from kindtwice.errors import InvalidPlace, InvalidSetting, InvalidTable, InvalidTwice, Refused
+from kindtwice.errors import (InvalidCount, InvalidDeed, InvalidDeeds, InvalidKind, InvalidKinds, InvalidLog,
+                              InvalidMap, InvalidPlace, InvalidRow, InvalidSetting, InvalidTable, InvalidTree,
+                              InvalidTwice, Refused)
 from kindtwice.kinds import Kinds, bare_rows, is_bare, is_longest_bare, longest_bare, most_bare, power, put_all
 from kindtwice.settings import Setting, is_log, kind_between, kind_of, many_by_kind, may_redo, redo_points, renamed
-from tests.helping import LONG, ONE, PARITY, Case, once_again, put_together, strict, words_of
+from tests.helping import LONG, ONE, PARITY, Case, once_again, put_together, strict, words_of, wreck
 
 METHODS = {
     ("kindtwice.kinds", "Kinds"): {"table": [], "words": [], "put": ["one", "other"]},
@@ -23,6 +24,10 @@ def parity():
 
 def setting():
     return Setting(parity(), {"a": "odd", "b": "even"}, ["even"])
+
+
+def tree():
+    return ("pair", "a", ("run", "even", ["b", "b"]))
 
 
 # The functions and classes of the interface, with right arguments under their names, in their order.
@@ -53,17 +58,77 @@ FUNCTIONS = {
         "opposite_setting": lambda: {"setting": setting()},
         "renamed": lambda: {"setting": setting(), "sent": {"a": "x", "b": "y"}},
     },
+    "kindtwice.rows": {
+        "is_row": lambda: {"setting": setting(), "log": ["b", "b"], "value": ("even", [0, 1])},
+        "most_stretches": lambda: {"setting": setting(), "log": ["b", "b"]},
+        "longest_row": lambda: {"setting": setting(), "log": ["b", "b"]},
+        "is_longest_row": lambda: {"setting": setting(), "log": ["b", "b"], "value": ("even", [0, 1, 2])},
+        "most_by_kind": lambda: {"setting": setting(), "log": ["b", "b"]},
+        "shortened": lambda: {"setting": setting(), "log": ["b", "b"], "row": ("even", [0, 1, 2]), "first": 0,
+                              "last": 1},
+        "sure_stretches": lambda: {"kinds": parity(), "number": 3},
+        "scarce_row": lambda: {"kinds": parity(), "number": 2},
+        "is_scarce_row": lambda: {"kinds": parity(), "number": 2, "value": ["odd", "odd"]},
+    },
+    "kindtwice.trees": {
+        "is_tree": lambda: {"setting": setting(), "value": tree()},
+        "log_of": lambda: {"setting": setting(), "tree": tree()},
+        "kind_by": lambda: {"setting": setting(), "tree": tree()},
+        "height_of": lambda: {"setting": setting(), "tree": tree()},
+        "least_height": lambda: {"setting": setting(), "log": ["b", "b", "b"]},
+        "least_tree": lambda: {"setting": setting(), "log": ["b", "b", "b"]},
+        "is_least_tree": lambda: {"setting": setting(), "log": ["a", "b", "b"], "value": tree()},
+        "bound_of": lambda: {"kinds": parity()},
+        "low_tree": lambda: {"setting": setting(), "log": ["b", "b", "b"]},
+        "is_low_tree": lambda: {"setting": setting(), "log": ["a", "b", "b"], "value": tree()},
+        "pairs_alone": lambda: {"setting": setting(), "log": ["b", "b", "b"]},
+        "heights": lambda: {"setting": setting(), "log": ["b", "a"]},
+        "are_heights": lambda: {"setting": setting(), "log": ["b"], "value": {(0, 1): 0}},
+        "greatest_height": lambda: {"kinds": parity(), "number": 3},
+        "tall_row": lambda: {"kinds": parity(), "number": 2},
+        "is_tall_row": lambda: {"kinds": parity(), "number": 2, "value": ["odd", "odd"]},
+        "knots_of": lambda: {"setting": setting(), "tree": tree()},
+        "opposite_tree": lambda: {"setting": setting(), "tree": tree()},
+    },
+    "kindtwice.looks": {
+        "are_looks": lambda: {"setting": setting(), "tree": tree(), "first": 1, "last": 3,
+                              "value": [(1, 2, "even"), (2, 3, "even")]},
+        "least_looks": lambda: {"setting": setting(), "tree": tree(), "first": 0, "last": 2},
+        "fewest_looks": lambda: {"setting": setting(), "tree": tree(), "first": 0, "last": 2},
+        "are_least_looks": lambda: {"setting": setting(), "tree": tree(), "first": 1, "last": 3,
+                                    "value": [(1, 3, "even")]},
+        "most_looks": lambda: {"setting": setting(), "tree": tree()},
+        "hardest_stretch": lambda: {"setting": setting(), "tree": tree()},
+        "is_hardest_stretch": lambda: {"setting": setting(), "tree": tree(), "value": (0, 2)},
+        "knots_with": lambda: {"setting": setting(), "tree": tree(), "place": 1},
+        "fitting": lambda: {"setting": setting(), "tree": tree(), "place": 1},
+        "with_deed": lambda: {"setting": setting(), "tree": tree(), "place": 0, "deed": "b"},
+    },
 }
 WANTED = {
     "put_all": "odd", "own_squares": ["even"], "power": "odd", "own_power": 2, "coming_back": (1, 2), "is_bare": True,
     "bare_rows": [["odd"]], "most_bare": 1, "longest_bare": ["odd"], "is_longest_bare": True, "is_log": True,
     "kind_of": "odd", "kind_between": "odd", "many_by_kind": {"even": 1, "odd": 2}, "redo_points": [1],
-    "may_redo": True,
+    "may_redo": True, "is_row": True, "most_stretches": 2, "longest_row": ("even", [0, 1, 2]), "is_longest_row": True,
+    "most_by_kind": {"even": 2}, "shortened": ["b"], "sure_stretches": 1, "is_scarce_row": True, "is_tree": True,
+    "log_of": ["a", "b", "b"], "kind_by": "odd", "height_of": 2, "least_height": 1,
+    "least_tree": ("run", "even", ["b", "b", "b"]), "is_least_tree": True, "bound_of": 5, "is_low_tree": True,
+    "pairs_alone": 2, "heights": {(0, 1): 0, (0, 2): 1, (1, 2): 0}, "are_heights": True, "greatest_height": 2,
+    "is_tall_row": True, "knots_of": [(0, 3, 2), (0, 1, 0), (1, 3, 1), (1, 2, 0), (2, 3, 0)],
+    "opposite_tree": ("pair", ("run", "even", ["b", "b"]), "a"), "are_looks": True,
+    "least_looks": [(0, 1, "odd"), (1, 2, "even")], "fewest_looks": 2, "are_least_looks": True, "most_looks": 2,
+    "hardest_stretch": (0, 2), "is_hardest_stretch": True, "knots_with": [(0, 3, 2), (1, 3, 1), (1, 2, 0)],
+    "fitting": ["b"], "with_deed": ("pair", "b", ("run", "even", ["b", "b"])),
 }
 # The error of each argument, wherever it stands; `value` is judged.
 ERRORS = {"table": InvalidTable, "kinds": InvalidKinds, "row": InvalidKinds, "kind": InvalidKind,
           "number": InvalidCount, "deeds": InvalidDeeds, "twice": InvalidTwice, "setting": InvalidSetting,
-          "log": InvalidLog, "first": InvalidPlace, "last": InvalidPlace, "sent": InvalidMap}
+          "log": InvalidLog, "first": InvalidPlace, "last": InvalidPlace, "sent": InvalidMap, "tree": InvalidTree,
+          "place": InvalidPlace, "deed": InvalidDeed, ("shortened", "row"): InvalidRow}
+
+
+def error_of(function, argument):
+    return ERRORS.get((function, argument), ERRORS[argument])
 
 
 def all_functions():
@@ -118,13 +183,11 @@ class Calls(Case):
             args = made()
             result = function(*args.values())
             picture = strict(result)
-            for value in args.values():
-                if isinstance(value, (list, dict)):
-                    value.clear()
+            wreck(list(args.values()))
             self.assertEqual(strict(result), picture)
 
     def test_wrong_arguments_deep_and_shallow(self):
-        for _, _, function, made in all_functions():
+        for _, called, function, made in all_functions():
             for name in made():
                 for value in [nested(depth) for depth in (1, 2, 3, 20, 40)]:
                     args = made()
@@ -132,10 +195,10 @@ class Calls(Case):
                     if name == "value":
                         self.tells(False, function, **args)
                     elif strict(value) != strict(["even"]):
-                        self.raises(ERRORS[name], value, function, **args)
+                        self.raises(error_of(called, name), value, function, **args)
 
     def test_all_arguments_wrong_from_one_on(self):
-        for _, _, function, made in all_functions():
+        for _, called, function, made in all_functions():
             names = list(made())
             for at, name in enumerate(names):
                 if name == "value":
@@ -144,8 +207,8 @@ class Calls(Case):
                     args = made()
                     for later in names[at:]:
                         args[later] = wrong
-                    self.raises(ERRORS[name], wrong, function, *args.values())
-                    self.raises(ERRORS[name], wrong, function, **args)
+                    self.raises(error_of(called, name), wrong, function, *args.values())
+                    self.raises(error_of(called, name), wrong, function, **args)
 
     def test_a_refusal_comes_behind_all_other_errors(self):
         self.raises(InvalidSetting, None, kind_of, None, [])

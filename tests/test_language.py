@@ -8,6 +8,11 @@ import unittest
 PACKAGE = pathlib.Path(__file__).resolve().parent.parent / "kindtwice"
 FILES = sorted(path for path in PACKAGE.rglob("*") if "__pycache__" not in path.parts)
 BARRED = {"type", "typing", "enum", "Enum", "Flag", "Generic", "Protocol", "ABC", "namedtuple", "NamedTuple"}
+BUILTINS = set("""len range enumerate zip min max sum abs sorted reversed int str bool bytes list tuple dict set
+frozenset isinstance ord repr any all divmod pow ValueError""".split())
+METHODS = set("""append clear copy count endswith extend find get index insert isalnum isalpha isdigit islower isspace
+isupper items join keys ljust lower lstrip partition pop remove replace reverse rfind rjust rpartition rsplit rstrip
+setdefault split splitlines startswith strip update upper values zfill bit_length add discard""".split())
 LIBRARY = {"heapq", "math", "itertools", "collections"}
 
 
@@ -77,6 +82,50 @@ class Language(unittest.TestCase):
                 if isinstance(node, ast.Call) and isinstance(node.func, ast.Name):
                     if node.func.id in ("any", "all", "min", "max", "sum", "sorted"):
                         self.assertFalse(any(isinstance(one, ast.GeneratorExp) for one in node.args), name)
+
+    def test_l8_builtins(self):
+        for name, tree in trees():
+            for node in ast.walk(tree):
+                if isinstance(node, ast.Name) and hasattr(builtins, node.id):
+                    self.assertIn(node.id, BUILTINS, name)
+
+    def test_l25_methods(self):
+        own = {one.name for _, tree in trees() for made in ast.walk(tree) if isinstance(made, ast.ClassDef)
+               for one in made.body if isinstance(one, ast.FunctionDef)}
+        for name, tree in trees():
+            for node in ast.walk(tree):
+                if isinstance(node, ast.Call) and isinstance(node.func, ast.Attribute):
+                    self.assertIn(node.func.attr, METHODS | own, name)
+                    if node.func.attr in METHODS - own:
+                        self.assertEqual(node.keywords, [], name)
+
+    def test_l18_methods_and_attributes(self):
+        for name, tree in trees():
+            for made in ast.walk(tree):
+                if isinstance(made, ast.ClassDef):
+                    methods = [one.name for one in made.body if isinstance(one, ast.FunctionDef)]
+                    held = {one.attr for one in ast.walk(made)
+                            if isinstance(one, ast.Attribute) and isinstance(one.ctx, ast.Store)}
+                    self.assertEqual(sorted(set(methods)), sorted(methods), name)
+                    self.assertEqual(held & set(methods), set(), name)
+
+    def test_l24_sets_are_not_iterated(self):
+        for name, tree in trees():
+            for node in ast.walk(tree):
+                if isinstance(node, (ast.For, ast.comprehension)):
+                    one = node.iter
+                    self.assertNotIsInstance(one, (ast.Set, ast.SetComp), name)
+                    if isinstance(one, ast.Call) and isinstance(one.func, ast.Name):
+                        self.assertNotIn(one.func.id, ("set", "frozenset"), name)
+
+    def test_l16_no_two_files_import_from_each_other(self):
+        needs = {}
+        for name, tree in trees():
+            needs["kindtwice." + name[:-3]] = {node.module for node in tree.body if isinstance(node, ast.ImportFrom)}
+        while needs:
+            free = [name for name in needs if not needs[name] & set(needs)]
+            self.assertTrue(free, needs)
+            needs = {name: needs[name] for name in needs if name not in free}
 
     def test_l17_l27_strings(self):
         for name, tree in trees():

@@ -6,29 +6,9 @@ from kindtwice.errors import InvalidLog, InvalidPlace, InvalidSetting, Refused
 from kindtwice.kinds import Kinds, own_squares, put_all
 from kindtwice.settings import (Setting, is_log, kind_between, kind_of, many_by_kind, may_redo, redo_points,
                                 with_twice)
-from tests.helping import (CHAIN, FIRST_STAYS, LAST_STAYS, MANY_TABLES, ONE, PARITY, Case, no_counts, no_settings,
-                           odd_objects, put_together, rows_of, some_setting, stretches, subsets, words_of)
-
-SETTING = Setting(Kinds(PARITY), {"a": "odd", "b": "even"}, ["even"])
-
-
-def no_logs():
-    """Objects that are no logs of SETTING."""
-    return [one for one in odd_objects() if one != []] + [
-        ("a", "b"), ("a",), (), "a", "ab", ["a", "c"], ["c"], ["a", "A"], ["a", ""], ["a", None], ["a", ["b"]],
-        [["a", "b"]], ["ab"], ["odd"], ["even"], ["a", 0], [True], {"a": "odd"}, {0: "a"}, [("a",)], [{"a": 1}],
-        ["a", Kinds(PARITY)], ["a "], [Setting(Kinds(ONE), {"a": "k"}, [])],
-    ]
-
-
-def kinds_in(setting, log):
-    return [setting.deeds()[deed] for deed in log]
-
-
-def long_log(setting, number):
-    deeds = list(setting.deeds())
-    return [deeds[(at * at + at // 3) % len(deeds)] for at in range(number)]
-
+from tests.helping import (CHAIN, FIRST_STAYS, LAST_STAYS, MANY_TABLES, PARITY, SETTING, Case, kinds_in, long_log,
+                           no_counts, no_logs, no_settings, put_together, rows_of, some_setting, stretches, subsets,
+                           words_of)
 
 class IsLog(Case):
     """[16]: is_log."""
