@@ -1,4 +1,4 @@
-"""What a word, a count and an ascending list are, for all modules."""
+"""What a word, a count and an ascending list are, and words to count by, for all modules."""
 
 from kindtwice.errors import InvalidCount
 
@@ -28,3 +28,13 @@ def check_count(number, least):
 def is_ascending(words):
     """Whether a list of words is in order and has no doubles."""
     return all([one < other for one, other in zip(words, words[1:])])
+
+
+def counting_words(many):
+    """The first so many of the words a, b, .., z, aa, ab, .., in this order."""
+    words = []
+    longest = [""]
+    while len(words) < many:
+        longest = [word + letter for word in longest for letter in LETTERS]
+        words = words + longest
+    return words[:many]

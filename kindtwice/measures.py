@@ -76,8 +76,8 @@ def _run_cuts(counts, first, last, limit):
     """The points of a row of two stretches or more that cut a stretch, none higher than a limit."""
     kind = counts.stretches[(first, last)]
     points = [last]
-    # The whole stretch stands for itself only behind the first cut.
-    while len(points) == 1 or counts.told[(first, points[-1])] > limit:
+    # The whole stretch itself is higher than the limit, so it is cut once at least.
+    while counts.told[(first, points[-1])] > limit:
         behind = points[-1]
         points.append([
             cut for cut in range(first + 1, behind)

@@ -5,6 +5,7 @@ import unittest
 from kindtwice.errors import InvalidTable, TwiceError
 from kindtwice.kinds import Kinds
 from kindtwice.settings import Setting
+from kindtwice.stores import Store
 
 PARITY = {("even", "even"): "even", ("even", "odd"): "odd", ("odd", "even"): "odd", ("odd", "odd"): "even"}
 DULL = {("x", "x"): "z", ("x", "z"): "z", ("z", "x"): "z", ("z", "z"): "z"}
@@ -123,7 +124,7 @@ def odd_objects():
         {}, {None: None}, {"nokind": "nokind"}, {0: "even"}, {True: False}, {"a": ["even"]}, {(): []},
         {("a", "b"): "a"}, {("a",): "a"}, {"A": "even"}, {"a": 1, 2: [{}]}, dict(PARITY, extra="even"),
         Kinds(dict(FIRST_STAYS)), Setting(Kinds(dict(ONE)), {"p": "k"}, ["k"]),
-        TwiceError(), InvalidTable([1]),
+        Store({"on": {"a": "on"}}), TwiceError(), InvalidTable([1]),
     ]
 
 
@@ -168,6 +169,12 @@ def long_log(setting, number):
     return [deeds[(at * at + at // 3) % len(deeds)] for at in range(number)]
 
 
+def no_stores():
+    """Objects that are no stores."""
+    return [one for one in odd_objects() if not isinstance(one, Store)] + [
+        {"on": {"a": "on"}}, [Store({"on": {"a": "on"}})], (Store({"on": {"a": "on"}}),)]
+
+
 def subsets(words):
     """All ascending lists of some of some words that ascend."""
     lists = [[]]
@@ -196,6 +203,8 @@ def strict(value):
         return ("Kinds", strict(value.table()), strict(value.words()))
     if isinstance(value, Setting):
         return ("Setting", strict(value.kinds()), strict(value.deeds()), strict(value.twice()))
+    if isinstance(value, Store):
+        return ("Store", strict(value.moves()), strict(value.states()), strict(value.deeds()))
     if isinstance(value, Exception):
         return (value.__class__.__name__, strict(getattr(value, "value", "no field")))
     return (value.__class__.__name__, value)

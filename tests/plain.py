@@ -157,3 +157,117 @@ def are_bounded(setting, log, counts):
         if counts[(first, last)] > min(most):
             return False
     return True
+
+
+def doubled(setting, log):
+    """All doublings of a log, as a set of tuples."""
+    table = setting.kinds().table()
+    return {tuple(log[:last] + log[first:last] + log[last:])
+            for first, last in itertools.combinations(range(len(log) + 1), 2)
+            if put_together(table, kinds_in(setting, log[first:last])) in setting.twice()}
+
+
+def halved(setting, log):
+    """All logs of which a log is a doubling, as a set of tuples."""
+    shorter = {tuple(log[:first] + log[last:]) for first, last in itertools.combinations(range(len(log) + 1), 2)}
+    return {one for one in shorter if tuple(log) in doubled(setting, list(one))}
+
+
+def squeezed_ways(setting, log):
+    """All squeezed logs to which halvings lead from a log, as tuples, and the set of the numbers of halvings."""
+    known = {}
+
+    def ways(one):
+        if one not in known:
+            shorter = halved(setting, list(one))
+            if not shorter:
+                known[one] = ({one}, {0})
+            else:
+                ends = [ways(other) for other in shorter]
+                known[one] = (set().union(*[end for end, _ in ends]),
+                              {number + 1 for _, numbers in ends for number in numbers})
+        return known[one]
+
+    return ways(tuple(log))
+
+
+def alike_within(setting, log, most):
+    """All logs, as tuples, to which chains lead from a log, no log on the way longer than so many deeds."""
+    found = {tuple(log)}
+    waiting = [tuple(log)]
+    while waiting:
+        one = list(waiting.pop())
+        further = halved(setting, one)
+        further |= {other for other in doubled(setting, one) if len(other) <= most}
+        for other in further - found:
+            found.add(other)
+            waiting.append(other)
+    return found
+
+
+def plain_steps(setting, log):
+    """The steps of a log of a plain setting."""
+    table = setting.kinds().table()
+    squares = squares_of(table)
+    if len(squares) ** 2 == len(table):
+        return list(log)
+    row = kinds_in(setting, log)
+    return [(put_together(table, squares + row[:place]), deed) for place, deed in enumerate(log)]
+
+
+def ahead_of(steps):
+    """What is ahead of a list of steps that is not empty."""
+    return max([steps[:place] for place in range(len(steps)) if steps[place] not in steps[:place]], key=len)
+
+
+def behind_of(steps):
+    """What is behind a list of steps that is not empty."""
+    return ahead_of(steps[::-1])[::-1]
+
+
+def are_same(steps, other):
+    """Whether two lists of steps are same, by the words."""
+    if not steps or not other:
+        return steps == other
+    ahead, more_ahead = ahead_of(steps), ahead_of(other)
+    after, more_after = behind_of(steps), behind_of(other)
+    return (set(steps) == set(other) and steps[len(ahead)] == other[len(more_ahead)] and are_same(ahead, more_ahead)
+            and steps[-len(after) - 1] == other[-len(more_after) - 1] and are_same(after, more_after))
+
+
+def differences(steps, other, deepest):
+    """All differences of two lists of steps of at most so many turns, as tuples of a tuple of turns and a step."""
+    found = {((), step) for step in set(steps) ^ set(other)}
+    if steps and other and deepest > 0:
+        for turn, to in (("ahead", ahead_of), ("behind", behind_of)):
+            found |= {((turn, *turns), step) for turns, step in differences(to(steps), to(other), deepest - 1)}
+    return found
+
+
+def ways_through(setting, moves):
+    """For each kind, and each tuple of states to which some log of it leads from the states: a shortest such log."""
+    table = setting.kinds().table()
+    deeds = setting.deeds()
+    states = sorted(moves)
+    found = {}
+    level = [(deeds[deed], tuple(moves[state][deed] for state in states), [deed]) for deed in sorted(deeds)]
+    while level:
+        following = []
+        for kind, led, log in level:
+            if (kind, led) not in found:
+                found[(kind, led)] = log
+                for deed in sorted(deeds):
+                    following.append((table[(kind, deeds[deed])], tuple(moves[state][deed] for state in led),
+                                      log + [deed]))
+        level = following
+    return found
+
+
+def breaking_ways(setting, moves):
+    """For each kind, where there is one, the least length of a log of it that leads elsewhere done twice."""
+    states = sorted(moves)
+    least = {}
+    for (kind, led), log in ways_through(setting, moves).items():
+        if any(led[states.index(state)] != state for state in led):
+            least[kind] = min(least.get(kind, len(log)), len(log))
+    return least

@@ -67,6 +67,55 @@ tree = ("pair", "a", ("pair", ("run", "even", ["b", "b", "b", "b"]), "a"))
 with_deed(setting, tree, 2, "c")
 # ('pair', 'a', ('pair', ('run', 'even', ['b', 'c', 'b', 'b']), 'a'))
 ''',
+    "section 8": '''
+from kindtwice.doublings import all_squeezed, doublings, fewest_halvings, halvings, is_chain, is_doubling, is_squeezing, stays
+from kindtwice.kinds import Kinds
+from kindtwice.settings import Setting
+parity = Kinds({("even", "even"): "even", ("even", "odd"): "odd", ("odd", "even"): "odd", ("odd", "odd"): "even"})
+setting = Setting(parity, {"a": "odd", "b": "even"}, ["even"])
+[doublings(setting, ["a", "b"]), halvings(setting, ["a", "b", "b", "a"]), halvings(setting, ["a", "a", "b", "a", "a", "b"]), halvings(setting, ["a", "b", "a", "b"])]
+# [[['a', 'b', 'b']], [['a', 'b', 'a']], [['a', 'a', 'b']], []]
+[is_doubling(setting, ["a", "b"], ["a", "b", "b"]), is_chain(setting, ["a", "b", "b"], ["a", "b"], [["a", "b", "b"], ["a", "b"]]), is_squeezing(setting, ["b", "b", "b"], [["b", "b", "b"], ["b", "b"], ["b"]]), all_squeezed(setting, ["b", "b", "b"]), fewest_halvings(setting, ["b", "b", "b", "b"])]
+# [True, True, True, [['b']], 2]
+stays(setting, ["a", "b", "b", "a"])
+# ('even', ['a', 'b'], ['a', 'b'])
+''',
+    "section 9": '''
+from kindtwice.endless import closed, counting_deeds, counting_store, is_endless, open_kinds, opened
+from kindtwice.kinds import Kinds
+from kindtwice.settings import Setting
+parity = Kinds({("even", "even"): "even", ("even", "odd"): "odd", ("odd", "even"): "odd", ("odd", "odd"): "even"})
+setting = Setting(parity, {"a": "odd", "b": "even"}, [])
+[is_endless(setting), open_kinds(setting), counting_deeds(setting), closed(setting).twice(), opened(closed(setting), "even") == setting]
+# [True, ['even'], ['b'], ['even'], True]
+counting_store(setting, "b", 1).moves()
+# {'a': {'a': 'c', 'b': 'b'}, 'b': {'a': 'c', 'b': 'c'}, 'c': {'a': 'c', 'b': 'c'}}
+''',
+    "section 10, of kindtwice.alike": '''
+from kindtwice.alike import are_alike, difference, is_difference, is_plain, steps, whole_end, whole_start
+from kindtwice.kinds import Kinds
+from kindtwice.settings import Setting
+parity = Kinds({("even", "even"): "even", ("even", "odd"): "odd", ("odd", "even"): "odd", ("odd", "odd"): "even"})
+setting = Setting(parity, {"a": "odd", "b": "even"}, ["even"])
+[is_plain(setting), steps(setting, ["a", "b", "a"]), whole_start(setting, ["a", "b", "a", "a"]), whole_end(setting, ["a", "b", "a", "a"])]
+# [True, [('even', 'a'), ('odd', 'b'), ('odd', 'a')], 3, 3]
+[are_alike(setting, ["a", "a", "a", "a"], ["a", "a"]), are_alike(setting, ["a", "b", "a"], ["b", "a", "a"]), is_difference(setting, ["a"], ["a", "a"], ([], ("odd", "a"))), is_difference(setting, ["a"], ["a", "a"], (["ahead"], ("even", "a")))]
+# [True, False, True, True]
+dull = Setting(Kinds({("x", "x"): "z", ("x", "z"): "z", ("z", "x"): "z", ("z", "z"): "z"}), {"p": "x", "q": "z"}, ["z"])
+is_plain(dull)
+# False
+''',
+    "section 11": '''
+from kindtwice.kinds import Kinds
+from kindtwice.settings import Setting
+from kindtwice.stores import Store, behind, behind_all, both_names, both_stores, is_typed, is_untyped, least_untyped, parted_states, typed_kinds
+one = Setting(Kinds({("k", "k"): "k"}), {"p": "k", "q": "k"}, ["k"])
+store = Store({"off": {"p": "on", "q": "off"}, "on": {"p": "off", "q": "on"}})
+[behind(store, "off", ["p", "q", "p"]), behind_all(store, ["p"]), is_typed(one, store), least_untyped(one, store), is_untyped(one, store, (["p"], "off")), typed_kinds(one, store)]
+# ['off', {'off': 'on', 'on': 'off'}, False, 1, True, []]
+[parted_states(store, ["p"], []), both_names(store, store)["b"], behind(both_stores(store, store), "b", ["p"])]
+# [['off', 'on'], ('off', 'on'), 'c']
+''',
 }
 
 

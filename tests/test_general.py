@@ -6,15 +6,17 @@ import types
 import unittest
 
 from kindtwice.errors import (InvalidCount, InvalidDeed, InvalidDeeds, InvalidKind, InvalidKinds, InvalidLog,
-                              InvalidMap, InvalidPlace, InvalidRow, InvalidSetting, InvalidTable, InvalidTree,
-                              InvalidTwice, Refused)
+                              InvalidMap, InvalidMoves, InvalidPlace, InvalidRow, InvalidSetting, InvalidState,
+                              InvalidStore, InvalidTable, InvalidTree, InvalidTwice, Refused)
 from kindtwice.kinds import Kinds, bare_rows, is_bare, is_longest_bare, longest_bare, most_bare, power, put_all
 from kindtwice.settings import Setting, is_log, kind_between, kind_of, many_by_kind, may_redo, redo_points, renamed
+from kindtwice.stores import Store
 from tests.helping import LONG, ONE, PARITY, Case, once_again, put_together, strict, words_of, wreck
 
 METHODS = {
     ("kindtwice.kinds", "Kinds"): {"table": [], "words": [], "put": ["one", "other"]},
     ("kindtwice.settings", "Setting"): {"kinds": [], "deeds": [], "twice": []},
+    ("kindtwice.stores", "Store"): {"moves": [], "states": [], "deeds": []},
 }
 
 
@@ -24,6 +26,18 @@ def parity():
 
 def setting():
     return Setting(parity(), {"a": "odd", "b": "even"}, ["even"])
+
+
+def endless():
+    return Setting(parity(), {"a": "odd", "b": "even"}, [])
+
+
+def single():
+    return Setting(Kinds(dict(ONE)), {"a": "k", "b": "k"}, ["k"])
+
+
+def switch():
+    return {"on": {"b": "on", "a": "off"}, "off": {"a": "on", "b": "off"}}
 
 
 def tree():
@@ -104,6 +118,51 @@ FUNCTIONS = {
         "fitting": lambda: {"setting": setting(), "tree": tree(), "place": 1},
         "with_deed": lambda: {"setting": setting(), "tree": tree(), "place": 0, "deed": "b"},
     },
+    "kindtwice.doublings": {
+        "doublings": lambda: {"setting": setting(), "log": ["a", "b"]},
+        "halvings": lambda: {"setting": setting(), "log": ["a", "b", "b"]},
+        "is_doubling": lambda: {"setting": setting(), "one": ["b"], "other": ["b", "b"]},
+        "is_chain": lambda: {"setting": setting(), "one": ["b"], "other": ["b", "b"], "value": [["b"], ["b", "b"]]},
+        "is_squeezed": lambda: {"setting": setting(), "log": ["b", "b"]},
+        "squeezing": lambda: {"setting": setting(), "log": ["b", "b"]},
+        "is_squeezing": lambda: {"setting": setting(), "log": ["b", "b"], "value": [["b", "b"], ["b"]]},
+        "all_squeezed": lambda: {"setting": setting(), "log": ["b", "b", "b", "b"]},
+        "fewest_halvings": lambda: {"setting": setting(), "log": ["b", "b", "b", "b"]},
+        "most_halvings": lambda: {"setting": setting(), "log": ["b", "b", "b", "b"]},
+        "stays": lambda: {"setting": setting(), "log": ["a", "b", "a"]},
+    },
+    "kindtwice.endless": {
+        "is_endless": lambda: {"setting": endless()},
+        "open_kinds": lambda: {"setting": endless()},
+        "counting_deeds": lambda: {"setting": endless()},
+        "counting_store": lambda: {"setting": endless(), "deed": "b", "number": 1},
+        "closed": lambda: {"setting": endless()},
+        "opened": lambda: {"setting": setting(), "kind": "even"},
+    },
+    "kindtwice.alike": {
+        "is_plain": lambda: {"setting": setting()},
+        "steps": lambda: {"setting": setting(), "log": ["a", "b"]},
+        "whole_start": lambda: {"setting": setting(), "log": ["a", "b", "a", "a"]},
+        "whole_end": lambda: {"setting": setting(), "log": ["a", "b", "a", "a"]},
+        "are_alike": lambda: {"setting": setting(), "one": ["b"], "other": ["b", "b"]},
+        "difference": lambda: {"setting": setting(), "one": [], "other": ["b"]},
+        "is_difference": lambda: {"setting": setting(), "one": ["a"], "other": ["a", "a"],
+                                  "value": (["ahead"], ("even", "a"))},
+    },
+    "kindtwice.stores": {
+        "Store": lambda: {"moves": switch()},
+        "behind": lambda: {"store": Store(switch()), "state": "on", "log": ["a"]},
+        "behind_all": lambda: {"store": Store(switch()), "log": ["a"]},
+        "is_typed": lambda: {"setting": setting(), "store": Store(switch())},
+        "untyped": lambda: {"setting": setting(), "store": Store(switch())},
+        "is_untyped": lambda: {"setting": single(), "store": Store(switch()), "value": (["a"], "on")},
+        "least_untyped": lambda: {"setting": single(), "store": Store(switch())},
+        "typed_kinds": lambda: {"setting": setting(), "store": Store(switch())},
+        "same_in": lambda: {"store": Store(switch()), "one": ["a", "a"], "other": ["b"]},
+        "parted_states": lambda: {"store": Store(switch()), "one": ["a"], "other": ["b"]},
+        "both_stores": lambda: {"one": Store(switch()), "other": Store(switch())},
+        "both_names": lambda: {"one": Store(switch()), "other": Store(switch())},
+    },
 }
 WANTED = {
     "put_all": "odd", "own_squares": ["even"], "power": "odd", "own_power": 2, "coming_back": (1, 2), "is_bare": True,
@@ -118,13 +177,25 @@ WANTED = {
     "opposite_tree": ("pair", ("run", "even", ["b", "b"]), "a"), "are_looks": True,
     "least_looks": [(0, 1, "odd"), (1, 2, "even")], "fewest_looks": 2, "are_least_looks": True, "most_looks": 2,
     "hardest_stretch": (0, 2), "is_hardest_stretch": True, "knots_with": [(0, 3, 2), (1, 3, 1), (1, 2, 0)],
-    "fitting": ["b"], "with_deed": ("pair", "b", ("run", "even", ["b", "b"])),
+    "fitting": ["b"], "with_deed": ("pair", "b", ("run", "even", ["b", "b"])), "doublings": [["a", "b", "b"]],
+    "halvings": [["a", "b"]], "is_doubling": True, "is_chain": True, "is_squeezed": False,
+    "squeezing": [["b", "b"], ["b"]], "is_squeezing": True, "all_squeezed": [["b"]], "fewest_halvings": 2,
+    "most_halvings": 3, "stays": ("even", ["a", "b"], ["a", "b"]), "is_endless": True,
+    "open_kinds": ["even"], "counting_deeds": ["b"], "is_plain": True, "steps": [("even", "a"), ("odd", "b")],
+    "whole_start": 3, "whole_end": 3, "are_alike": True, "difference": ([], ("even", "b")), "is_difference": True,
+    "behind": "off", "behind_all": {"off": "on", "on": "off"}, "is_typed": True, "untyped": None, "is_untyped": True,
+    "least_untyped": 1, "typed_kinds": ["even"], "same_in": True, "parted_states": ["off", "on"],
+    "both_names": {"a": ("off", "off"), "b": ("off", "on"), "c": ("on", "off"), "d": ("on", "on")},
 }
 # The error of each argument, wherever it stands; `value` is judged.
 ERRORS = {"table": InvalidTable, "kinds": InvalidKinds, "row": InvalidKinds, "kind": InvalidKind,
           "number": InvalidCount, "deeds": InvalidDeeds, "twice": InvalidTwice, "setting": InvalidSetting,
           "log": InvalidLog, "first": InvalidPlace, "last": InvalidPlace, "sent": InvalidMap, "tree": InvalidTree,
-          "place": InvalidPlace, "deed": InvalidDeed, ("shortened", "row"): InvalidRow}
+          "place": InvalidPlace, "deed": InvalidDeed,
+          ("shortened", "row"): InvalidRow, "one": InvalidLog, "other": InvalidLog, "moves": InvalidMoves,
+          "store": InvalidStore, "state": InvalidState, ("both_stores", "one"): InvalidStore,
+          ("both_stores", "other"): InvalidStore, ("both_names", "one"): InvalidStore,
+          ("both_names", "other"): InvalidStore}
 
 
 def error_of(function, argument):

@@ -69,6 +69,25 @@ class Language(unittest.TestCase):
                 self.assertFalse(hasattr(builtins, bound), (name, bound))
                 self.assertNotIn(bound, BARRED, name)
 
+    def test_l15_locals_and_imports(self):
+        for name, tree in trees():
+            taken = {alias.name for node in tree.body if isinstance(node, ast.ImportFrom) for alias in node.names}
+            taken |= {node.name for node in tree.body if isinstance(node, ast.ClassDef)}
+            defined = [node.name for node in tree.body if isinstance(node, (ast.ClassDef, ast.FunctionDef))]
+            self.assertEqual(sorted(defined), sorted(set(defined)), name)
+            for node in ast.walk(tree):
+                if isinstance(node, (ast.FunctionDef, ast.Lambda)):
+                    inner = set(bound_names(node)) - {getattr(node, "name", None)}
+                    self.assertEqual(inner & taken, set(), name)
+            self.assertEqual(set(defined) & {alias for alias in taken if alias not in defined}, set(), name)
+
+    def test_l2_each_import_is_used(self):
+        for name, tree in trees():
+            used = {node.id for node in ast.walk(tree) if isinstance(node, ast.Name)}
+            for node in tree.body:
+                if isinstance(node, ast.ImportFrom):
+                    self.assertLessEqual({alias.name for alias in node.names}, used, name)
+
     def test_l6_l7_statements_and_signs(self):
         for name, tree in trees():
             for node in ast.walk(tree):

@@ -3,10 +3,15 @@
 import time
 import unittest
 
+from kindtwice.alike import are_alike, difference, is_difference
+from kindtwice.doublings import (all_squeezed, doublings, fewest_halvings, halvings, is_chain, is_squeezed,
+                                 is_squeezing, most_halvings, squeezing)
+from kindtwice.endless import counting_store
 from kindtwice.kinds import Kinds
 from kindtwice.looks import hardest_stretch, is_hardest_stretch, least_looks, most_looks
 from kindtwice.rows import is_longest_row, is_scarce_row, longest_row, scarce_row
 from kindtwice.settings import Setting
+from kindtwice.stores import Store, both_stores, is_typed, is_untyped, least_untyped, typed_kinds, untyped
 from kindtwice.trees import (are_heights, heights, is_least_tree, is_low_tree, is_tall_row, least_tree, low_tree,
                              tall_row)
 from tests.helping import CHAIN, CORNERS, FIRST_STAYS, KLEIN, LONG, ONE, PARITY, Case, once_again, words_of
@@ -74,6 +79,63 @@ class InTime(Case):
                 first, last = self.quickly(hardest_stretch, setting, tree)
                 self.assertTrue(self.quickly(is_hardest_stretch, setting, tree, (first, last)))
                 self.assertEqual(len(self.quickly(least_looks, setting, tree, first, last)), most)
+
+
+    def test_doublings_of_fourteen_deeds(self):
+        for table in TABLES:
+            setting = widest(table)
+            for log in (mixed(setting, 14), ["a"] * 14, ["a", "b"] * 7, ["a", "b", "c", "d", "a", "b", "b"] * 2,
+                        list("aabbccaabbccaa")):
+                many = self.quickly(most_halvings, setting, log)
+                self.assertLessEqual(self.quickly(fewest_halvings, setting, log), many)
+                for squeezed in self.quickly(all_squeezed, setting, log):
+                    self.assertTrue(is_squeezed(setting, squeezed))
+                for other in self.quickly(doublings, setting, log):
+                    self.assertIn(log, halvings(setting, other))
+
+    def test_chains_and_squeezings_of_sixty_deeds(self):
+        for table in TABLES:
+            setting = widest(table)
+            own = [deed for deed in "abcdef" if setting.deeds().get(deed) in setting.twice()][0]
+            for log in (mixed(setting, 60), [own] * 60, [own, "a"] * 30):
+                logs = self.quickly(squeezing, setting, log)
+                self.assertTrue(self.quickly(is_squeezing, setting, log, logs))
+                self.assertTrue(self.quickly(is_chain, setting, log, logs[-1], logs))
+            logs = [[own] * number for number in range(60, 0, -1)]
+            self.assertTrue(self.quickly(is_squeezing, setting, logs[0], logs))
+            self.assertTrue(self.quickly(is_chain, setting, logs[-1], logs[0], logs[::-1]))
+
+    def test_alike_logs_of_sixty_deeds(self):
+        for table in (ONE, PARITY, KLEIN, once_again(1, 3), once_again(1, 4), FIRST_STAYS, CHAIN, CORNERS):
+            setting = widest(table)
+            for one, other in [(mixed(setting, 60), mixed(setting, 60, 5)), (mixed(setting, 60), mixed(setting, 60)),
+                               (list("abcdef") * 10, list("fedcba") * 10), (list("ab") * 30, list("ab") * 29)]:
+                told = self.quickly(difference, setting, one, other)
+                self.assertEqual(self.quickly(are_alike, setting, one, other), told is None)
+                self.assertEqual(self.quickly(is_difference, setting, one, other, told), told is not None)
+
+    def test_stores_of_twelve_and_thirteen_states(self):
+        for table in TABLES:
+            setting = widest(table)
+            deeds = list(setting.deeds())
+            for many in (12, 13):
+                states = ["s" + letter for letter in "abcdefghijklm"[:many]]
+                for moves in ({state: {deed: states[(at * 5 + place * place + 1) % many]
+                                       for place, deed in enumerate(deeds)} for at, state in enumerate(states)},
+                              {state: {deed: states[min(at + 1, many - 1)] if deed == "a" else state for deed in deeds}
+                               for at, state in enumerate(states)}):
+                    store = Store(moves)
+                    told = self.quickly(untyped, setting, store)
+                    self.assertEqual(self.quickly(is_typed, setting, store), told is None)
+                    self.assertEqual(self.quickly(is_untyped, setting, store, told), told is not None)
+                    self.quickly(least_untyped, setting, store)
+                    self.quickly(typed_kinds, setting, store)
+                    self.assertEqual(len(self.quickly(both_stores, store, store).states()), many * many)
+
+    def test_counting_to_sixty(self):
+        setting = widest(CHAIN, [])
+        for deed in setting.deeds():
+            self.assertEqual(len(self.quickly(counting_store, setting, deed, 60).states()), 62)
 
 
 if __name__ == "__main__":

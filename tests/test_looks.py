@@ -95,7 +95,8 @@ class Looks(Case):
 
     def test_looks_that_do_not_join_or_end_elsewhere(self):
         for value in [[(0, 1, "odd")], [(1, 3, "even")], [(0, 1, "odd"), (1, 2, "even")],
-                      [(1, 3, "even"), (0, 1, "odd")], [(0, 1, "odd"), (2, 3, "even")], [(0, 1, "odd"), (1, 3, "even"), (3, 4, "even")],
+                      [(1, 3, "even"), (0, 1, "odd")], [(0, 1, "odd"), (2, 3, "even")],
+                      [(0, 1, "odd"), (1, 3, "even"), (3, 4, "even")],
                       [(0, 1, "odd"), (0, 1, "odd"), (1, 3, "even")], [(0, 6, "even")], [],
                       [(0, 1, "odd"), (1, 3, "odd")], [(0, 1, "even"), (1, 3, "even")],
                       [(0, 1, "odd"), (1, 1, "even"), (1, 3, "even")]]:
