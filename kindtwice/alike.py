@@ -3,7 +3,7 @@
 from kindtwice.endless import is_endless
 from kindtwice.errors import Refused
 from kindtwice.kinds import own_squares
-from kindtwice.settings import check_log, check_setting
+from kindtwice.settings import check_log, check_setting, check_two_logs
 
 AHEAD = "ahead"
 BEHIND = "behind"
@@ -131,9 +131,7 @@ def _step_in_one(one, other):
 
 def difference(setting, one, other):
     """Turns to what is ahead and behind, and a step that is then in just one of two logs; None if they are alike."""
-    check_setting(setting)
-    check_log(setting, one)
-    check_log(setting, other)
+    check_two_logs(setting, one, other)
     _check_plain(setting)
     row = _steps_of(setting, one)
     beside = _steps_of(setting, other)
@@ -163,9 +161,7 @@ def are_alike(setting, one, other):
 
 def is_difference(setting, one, other, value):
     """Whether any object is turns, and a step that is then in just one of two logs of a plain setting."""
-    check_setting(setting)
-    check_log(setting, one)
-    check_log(setting, other)
+    check_two_logs(setting, one, other)
     if not is_plain(setting) or not isinstance(value, tuple) or len(value) != 2 or not isinstance(value[0], list):
         return False
     turns, step = value

@@ -1,15 +1,8 @@
 """Doublings and halvings of logs: a stretch of a kind in twice once more directly behind itself, or once less."""
 
 from kindtwice.errors import Refused
-from kindtwice.settings import check_log, check_setting, is_log, kind_of, kinds_of_deeds
+from kindtwice.settings import check_log, check_setting, check_two_logs, is_log, kind_of, kinds_of_deeds
 from kindtwice.stretches import stretch_kinds
-
-
-def _check_logs(setting, one, other):
-    """Raise an error unless a setting and two logs of it are passed."""
-    check_setting(setting)
-    check_log(setting, one)
-    check_log(setting, other)
 
 
 def _twice_stretches(setting, log):
@@ -48,7 +41,7 @@ def halvings(setting, log):
 
 def is_doubling(setting, one, other):
     """Whether the other log is a doubling of the one."""
-    _check_logs(setting, one, other)
+    check_two_logs(setting, one, other)
     more = len(other) - len(one)
     if not 0 < more <= len(one):
         return False
@@ -67,7 +60,7 @@ def _are_logs(setting, value):
 
 def is_chain(setting, one, other, value):
     """Whether any object is a list of logs from the one to the other, each a doubling or a halving of that ahead."""
-    _check_logs(setting, one, other)
+    check_two_logs(setting, one, other)
     if not _are_logs(setting, value) or value[0] != one or value[-1] != other:
         return False
     for ahead, log in zip(value, value[1:]):

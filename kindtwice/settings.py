@@ -66,6 +66,13 @@ def check_log(setting, log):
         raise InvalidLog(log)
 
 
+def check_two_logs(setting, one, other):
+    """Raise an error unless a setting and two logs of it are passed."""
+    check_setting(setting)
+    check_log(setting, one)
+    check_log(setting, other)
+
+
 def check_points(log, first, last):
     """Raise InvalidPlace unless two objects are a point of a log and a later one, one by one."""
     if not is_count(first) or first >= len(log):

@@ -2,7 +2,8 @@
 
 import unittest
 
-from kindtwice.errors import InvalidTable, TwiceError
+from kindtwice.desk import Desk
+from kindtwice.errors import InvalidTable, NothingToRedo, TwiceError
 from kindtwice.kinds import Kinds
 from kindtwice.settings import Setting
 from kindtwice.stores import Store
@@ -124,7 +125,8 @@ def odd_objects():
         {}, {None: None}, {"nokind": "nokind"}, {0: "even"}, {True: False}, {"a": ["even"]}, {(): []},
         {("a", "b"): "a"}, {("a",): "a"}, {"A": "even"}, {"a": 1, 2: [{}]}, dict(PARITY, extra="even"),
         Kinds(dict(FIRST_STAYS)), Setting(Kinds(dict(ONE)), {"p": "k"}, ["k"]),
-        Store({"on": {"a": "on"}}), TwiceError(), InvalidTable([1]),
+        Store({"on": {"a": "on"}}), Desk(Setting(Kinds(dict(ONE)), {"p": "k"}, ["k"])), TwiceError(),
+        InvalidTable([1]),
     ]
 
 
@@ -175,6 +177,33 @@ def no_stores():
         {"on": {"a": "on"}}, [Store({"on": {"a": "on"}})], (Store({"on": {"a": "on"}}),)]
 
 
+def free(deeds, twice=("k",)):
+    """The setting of one kind and some deeds."""
+    return Setting(Kinds(ONE), {deed: "k" for deed in deeds}, list(twice))
+
+
+def no_lists_of_words():
+    """Objects that are no logs where no setting is passed."""
+    return [one for one in odd_objects() if not isinstance(one, list)] + [
+        ("a", "b"), (), "ab", ["a", "A"], ["a", ""], [None], [0], [True], [["a"]], [("a",)], [{"a": 1}], ["a "],
+        ["a", "abcdefghi"], [Kinds(PARITY)], [[], []], {"a": "b"}]
+
+
+def no_marks(many):
+    """Objects that are no marks of a log of so many deeds."""
+    return [one for one in odd_objects() if one != [0]] + [
+        [], [1], [0, 0], [0, many + 1], [0, 1, 1], [1, 0], [0, 2, 1], [-1, 0], [0, -1], (0,), (0, 1), {0: 0}, [False],
+        [False, 1], [0, True], [0, None], [0, "1"], ["0"], [[0]], [0, [1]], [(0,)], [0, 10 ** 30], "0", [None, 0],
+        [0, Kinds(PARITY)], [0, (1,)], [0, {}]]
+
+
+def no_days(many):
+    """Objects that are no days of a log of so many deeds, two at least, and the mark 0."""
+    return [one for one in odd_objects() if one != [] and one != [1, 2] and one != [0]] + [
+        [many + 1], [-1], [0, many + 1], [1, -1], (), (0,), (1, 1), [False], [0, True], [None], ["1"], [[1]], [(0,)],
+        {0: 0}, {}, "", "1", [1, None], [10 ** 30], [Kinds(PARITY)], [SETTING]]
+
+
 def subsets(words):
     """All ascending lists of some of some words that ascend."""
     lists = [[]]
@@ -191,6 +220,16 @@ def some_setting(table):
     return Setting(Kinds(table), deeds, squares[1:] or squares)
 
 
+def again_of(desk):
+    """What can be made again on a desk, as far as it goes."""
+    other = desk.copy()
+    while True:
+        try:
+            other.redo()
+        except NothingToRedo:
+            return other.record()
+
+
 def strict(value):
     """A picture of a value that tells True from 1, a tuple from a list, and in which order keys stand."""
     if isinstance(value, list):
@@ -205,6 +244,9 @@ def strict(value):
         return ("Setting", strict(value.kinds()), strict(value.deeds()), strict(value.twice()))
     if isinstance(value, Store):
         return ("Store", strict(value.moves()), strict(value.states()), strict(value.deeds()))
+    if isinstance(value, Desk):
+        return ("Desk", strict([value.meant(), value.done(), value.marks(), value.falls(), value.at(),
+                                value.record()]), strict(again_of(value)))
     if isinstance(value, Exception):
         return (value.__class__.__name__, strict(getattr(value, "value", "no field")))
     return (value.__class__.__name__, value)

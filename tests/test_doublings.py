@@ -6,9 +6,9 @@ from kindtwice.doublings import (all_squeezed, doublings, fewest_halvings, halvi
                                  is_squeezed, is_squeezing, most_halvings, squeezing, stays)
 from kindtwice.errors import InvalidLog, InvalidSetting, Refused
 from kindtwice.kinds import Kinds, own_squares
-from kindtwice.settings import Setting, kind_of, with_twice
-from tests.helping import (CHAIN, CORNERS, DULL, LONG, MANY_TABLES, ONE, PARITY, SETTING, Case, kinds_in, long_log,
-                           no_logs, no_settings, odd_objects, put_together, rows_of, some_setting, subsets)
+from kindtwice.settings import kind_of, with_twice
+from tests.helping import (CHAIN, CORNERS, DULL, LONG, MANY_TABLES, ONE, PARITY, SETTING, Case, free, kinds_in,
+                           long_log, no_logs, no_settings, odd_objects, put_together, rows_of, some_setting, subsets)
 from tests.plain import doubled, halved, squeezed_ways
 
 WRONG = {"setting": (InvalidSetting, no_settings()), "log": (InvalidLog, no_logs()), "one": (InvalidLog, no_logs()),
@@ -18,11 +18,6 @@ FEW = {name: (error, objects[::5]) for name, (error, objects) in WRONG.items()}
 
 def lists(logs):
     return [list(log) for log in sorted(logs)]
-
-
-def free(deeds, twice=("k",)):
-    """The setting of one kind and some deeds."""
-    return Setting(Kinds(ONE), {deed: "k" for deed in deeds}, list(twice))
 
 
 def settings_of(table):

@@ -91,30 +91,87 @@ setting = Setting(parity, {"a": "odd", "b": "even"}, [])
 counting_store(setting, "b", 1).moves()
 # {'a': {'a': 'c', 'b': 'b'}, 'b': {'a': 'c', 'b': 'c'}, 'c': {'a': 'c', 'b': 'c'}}
 ''',
-    "section 10, of kindtwice.alike": '''
+    "section 10": '''
 from kindtwice.alike import are_alike, difference, is_difference, is_plain, steps, whole_end, whole_start
 from kindtwice.kinds import Kinds
 from kindtwice.settings import Setting
+from kindtwice.small import alike_logs, coming_logs, least, least_logs, many_unlike
 parity = Kinds({("even", "even"): "even", ("even", "odd"): "odd", ("odd", "even"): "odd", ("odd", "odd"): "even"})
 setting = Setting(parity, {"a": "odd", "b": "even"}, ["even"])
 [is_plain(setting), steps(setting, ["a", "b", "a"]), whole_start(setting, ["a", "b", "a", "a"]), whole_end(setting, ["a", "b", "a", "a"])]
 # [True, [('even', 'a'), ('odd', 'b'), ('odd', 'a')], 3, 3]
 [are_alike(setting, ["a", "a", "a", "a"], ["a", "a"]), are_alike(setting, ["a", "b", "a"], ["b", "a", "a"]), is_difference(setting, ["a"], ["a", "a"], ([], ("odd", "a"))), is_difference(setting, ["a"], ["a", "a"], (["ahead"], ("even", "a")))]
 # [True, False, True, True]
+[many_unlike(setting), least(setting, ["b", "b", "a"]), coming_logs(setting, ["a"])]
+# [185, ['b', 'a'], (2, 2)]
 dull = Setting(Kinds({("x", "x"): "z", ("x", "z"): "z", ("z", "x"): "z", ("z", "z"): "z"}), {"p": "x", "q": "z"}, ["z"])
-is_plain(dull)
-# False
+[is_plain(dull), many_unlike(dull), least_logs(dull)[:5], least(dull, ["q", "p", "p", "q"]), alike_logs(dull, ["p", "p"], 4)]
+# [False, 12, [['p'], ['q'], ['p', 'p'], ['p', 'q'], ['q', 'p']], ['q', 'p', 'q'], [['p', 'p'], ['p', 'p', 'p'], ['p', 'p', 'p', 'p']]]
 ''',
-    "section 11": '''
+    "sections 11 and 12": '''
 from kindtwice.kinds import Kinds
 from kindtwice.settings import Setting
 from kindtwice.stores import Store, behind, behind_all, both_names, both_stores, is_typed, is_untyped, least_untyped, parted_states, typed_kinds
+from kindtwice.telling import is_telling, least_states, own_names, own_store, telling
 one = Setting(Kinds({("k", "k"): "k"}), {"p": "k", "q": "k"}, ["k"])
 store = Store({"off": {"p": "on", "q": "off"}, "on": {"p": "off", "q": "on"}})
 [behind(store, "off", ["p", "q", "p"]), behind_all(store, ["p"]), is_typed(one, store), least_untyped(one, store), is_untyped(one, store, (["p"], "off")), typed_kinds(one, store)]
 # ['off', {'off': 'on', 'on': 'off'}, False, 1, True, []]
 [parted_states(store, ["p"], []), both_names(store, store)["b"], behind(both_stores(store, store), "b", ["p"])]
 # [['off', 'on'], ('off', 'on'), 'c']
+[own_names(one), own_store(one).moves()["f"]]
+# [{'a': [], 'b': ['p'], 'c': ['q'], 'd': ['p', 'q'], 'e': ['q', 'p'], 'f': ['p', 'q', 'p'], 'g': ['q', 'p', 'q']}, {'p': 'f', 'q': 'd'}]
+[telling(one, ["p"], ["p", "p"]), is_telling(one, ["p"], ["q"], (own_store(one), "a")), least_states(one, ["p"], ["p", "p"]), len(least_states(one, ["p"], ["q"]))]
+# [None, True, [], 7]
+''',
+    "section 16, of marks and falls": '''
+from kindtwice.falls import begins, chain_back, done_log, is_chain_back
+from kindtwice.kinds import Kinds
+from kindtwice.marks import any_marks, open_points, fewest_marks, is_covered, many_fewest, reach
+from kindtwice.settings import Setting
+kinds = Kinds({("even", "even"): "even", ("even", "odd"): "odd", ("odd", "even"): "odd", ("odd", "odd"): "even"})
+setting = Setting(kinds, {"a": "odd", "b": "even"}, ["even"])
+log = ["b", "b", "a", "a", "b"]
+[fewest_marks(setting, log), any_marks(setting, log), many_fewest(setting, log), reach(setting, log, 0), open_points(setting, log, [0, 4])]
+# [3, [0, 3, 4], 1, 3, [(0, 3)]]
+[begins(log, [0, 3, 4], [2, 5]), done_log(log, [0, 3, 4], [2, 5]), is_covered(setting, log, [0, 3, 4])]
+# [[0, 4], ['b', 'b', 'b', 'b', 'a', 'a', 'b', 'b'], True]
+is_chain_back(setting, log, [0, 3, 4], [2, 5], chain_back(setting, log, [0, 3, 4], [2, 5]))
+# True
+''',
+    "section 16, of the desk": '''
+from kindtwice.desk import Desk
+from kindtwice.kinds import Kinds
+from kindtwice.settings import Setting
+parity = Kinds({("even", "even"): "even", ("even", "odd"): "odd", ("odd", "even"): "odd", ("odd", "odd"): "even"})
+desk = Desk(Setting(parity, {"a": "odd", "b": "even"}, ["even"]))
+[desk.next_mark(["b", "b", "a"]), desk.do("b"), desk.do("b"), desk.fall(), desk.at(), desk.go_on(), desk.do("a"), desk.is_safe(), desk.why_not()]
+# [3, None, None, 0, 0, 2, None, False, [(0, 3)]]
+[desk.mark(), desk.is_safe(), desk.fall(), desk.meant(), desk.done(), desk.falls(), desk.chain()[-1] == desk.meant()]
+# [None, True, 3, ['b', 'b', 'a'], ['b', 'b', 'b', 'b', 'a'], [2, 3], True]
+''',
+    "section 17": r'''
+from kindtwice.desk import Desk
+from kindtwice.kinds import Kinds
+from kindtwice.scripts import end_of, needless, play, read_script, script_text
+from kindtwice.settings import Setting
+parity = Kinds({("even", "even"): "even", ("even", "odd"): "odd", ("odd", "even"): "odd", ("odd", "odd"): "even"})
+setting = Setting(parity, {"a": "odd", "b": "even"}, ["even"])
+day = [("do", "b"), ("do", "b"), ("fall",), ("go_on",), ("try", [("do", "a")]), ("do", "a"), ("mark",), ("do", "c")]
+[play(Desk(setting), day), read_script(script_text(day)) == day, script_text(day[3:5] + day[6:7])]
+# [[('told', None), ('told', None), ('told', 0), ('told', 2), ('tried', [('told', None)]), ('told', None), ('told', None), ('refused', 'InvalidDeed')], True, 'go_on\ntry\n  do a\nend\nmark']
+[end_of(setting, day), needless(setting, day)]
+# [(['b', 'b', 'a'], [0, 3], [2]), [4, 7]]
+''',
+    "section 18": r'''
+from kindtwice.kinds import Kinds
+from kindtwice.papers import logs_text, read_logs, read_setting, setting_text
+from kindtwice.settings import Setting
+one = Kinds({("k", "k"): "k"})
+[setting_text(Setting(one, {"p": "k", "q": "k"}, ["k"])), read_setting("k k = k\ndeeds\np k\ntwice") == Setting(one, {"p": "k"}, [])]
+# ['k k = k\ndeeds\np k\nq k\ntwice k', True]
+[logs_text([["a", "b"], [], ["a"]]), read_logs("-\nb a"), logs_text([])]
+# ['a b\n-\na', [[], ['b', 'a']], '']
 ''',
 }
 

@@ -5,9 +5,11 @@ import inspect
 import types
 import unittest
 
-from kindtwice.errors import (InvalidCount, InvalidDeed, InvalidDeeds, InvalidKind, InvalidKinds, InvalidLog,
-                              InvalidMap, InvalidMoves, InvalidPlace, InvalidRow, InvalidSetting, InvalidState,
-                              InvalidStore, InvalidTable, InvalidTree, InvalidTwice, Refused)
+from kindtwice.desk import Desk
+from kindtwice.errors import (InvalidCount, InvalidDeed, InvalidDeeds, InvalidDesk, InvalidFalls, InvalidKind,
+                              InvalidKinds, InvalidLog, InvalidLogs, InvalidMap, InvalidMarks, InvalidMoves,
+                              InvalidPlace, InvalidRecord, InvalidRow, InvalidScript, InvalidSetting, InvalidState,
+                              InvalidStore, InvalidTable, InvalidText, InvalidTree, InvalidTwice, Refused)
 from kindtwice.kinds import Kinds, bare_rows, is_bare, is_longest_bare, longest_bare, most_bare, power, put_all
 from kindtwice.settings import Setting, is_log, kind_between, kind_of, many_by_kind, may_redo, redo_points, renamed
 from kindtwice.stores import Store
@@ -17,7 +19,12 @@ METHODS = {
     ("kindtwice.kinds", "Kinds"): {"table": [], "words": [], "put": ["one", "other"]},
     ("kindtwice.settings", "Setting"): {"kinds": [], "deeds": [], "twice": []},
     ("kindtwice.stores", "Store"): {"moves": [], "states": [], "deeds": []},
+    ("kindtwice.desk", "Desk"): {
+        "meant": [], "done": [], "marks": [], "falls": [], "at": [], "do": ["deed"], "mark": [], "fall": [],
+        "go_on": [], "is_safe": [], "why_not": [], "next_mark": ["log"], "chain": [], "undo": [], "redo": [],
+        "trial": [], "attempt": ["action"], "copy": [], "record": []},
 }
+WITHOUT_EQUALS = ["Desk"]
 
 
 def parity():
@@ -38,6 +45,19 @@ def single():
 
 def switch():
     return {"on": {"b": "on", "a": "off"}, "off": {"a": "on", "b": "off"}}
+
+
+def busy():
+    """A desk on which all commands stand, one taken back."""
+    desk = Desk(setting())
+    desk.do("b")
+    desk.mark()
+    desk.do("b")
+    desk.fall()
+    desk.go_on()
+    desk.do("a")
+    desk.undo()
+    return desk
 
 
 def tree():
@@ -163,6 +183,67 @@ FUNCTIONS = {
         "both_stores": lambda: {"one": Store(switch()), "other": Store(switch())},
         "both_names": lambda: {"one": Store(switch()), "other": Store(switch())},
     },
+    "kindtwice.small": {
+        "least": lambda: {"setting": setting(), "log": ["b", "b", "a"]},
+        "least_logs": lambda: {"setting": single()},
+        "many_unlike": lambda: {"setting": setting()},
+        "alike_logs": lambda: {"setting": setting(), "log": ["b", "a"], "number": 3},
+        "coming_logs": lambda: {"setting": setting(), "log": ["a"]},
+    },
+    "kindtwice.telling": {
+        "own_store": lambda: {"setting": single()},
+        "own_names": lambda: {"setting": single()},
+        "telling": lambda: {"setting": setting(), "one": ["a"], "other": ["b"]},
+        "is_telling": lambda: {"setting": setting(), "one": ["a"], "other": ["b"], "value": (Store(switch()), "on")},
+        "least_states": lambda: {"setting": single(), "one": [], "other": ["a"]},
+    },
+    "kindtwice.marks": {
+        "are_marks": lambda: {"log": ["x", "y"], "value": [0, 2]},
+        "is_covered": lambda: {"setting": setting(), "log": ["b", "a"], "marks": [0, 2]},
+        "open_points": lambda: {"setting": setting(), "log": ["b", "a"], "marks": [0]},
+        "reach": lambda: {"setting": setting(), "log": ["b", "a"], "point": 0},
+        "fewest_marks": lambda: {"setting": setting(), "log": ["b", "a"]},
+        "any_marks": lambda: {"setting": setting(), "log": ["b", "a"]},
+        "are_fewest": lambda: {"setting": setting(), "log": ["b", "a"], "value": [0, 2]},
+        "bounds": lambda: {"setting": setting(), "log": ["b", "a"]},
+        "are_bounds": lambda: {"setting": setting(), "log": ["b"], "value": {0: 0, 1: 1, 2: 1}},
+        "many_fewest": lambda: {"setting": setting(), "log": ["b", "a"]},
+        "marks_at": lambda: {"setting": setting(), "log": ["b", "a"], "number": 0},
+        "sure_marks": lambda: {"setting": setting(), "log": ["b", "a"]},
+    },
+    "kindtwice.falls": {
+        "is_day": lambda: {"log": ["x", "y"], "marks": [0, 2], "value": [1, 2]},
+        "begins": lambda: {"log": ["x", "y"], "marks": [0, 2], "falls": [1, 2]},
+        "done_log": lambda: {"log": ["x", "y"], "marks": [0, 2], "falls": [1, 2]},
+        "many_done": lambda: {"log": ["x", "y"], "marks": [0, 2], "falls": [1, 2]},
+        "chain_back": lambda: {"setting": setting(), "log": ["b", "a"], "marks": [0, 2], "falls": [1, 2]},
+        "is_chain_back": lambda: {"setting": setting(), "log": ["b", "a"], "marks": [0, 2], "falls": [1, 2],
+                                  "value": [["b", "b", "a"], ["b", "a"]]},
+        "harmful_falls": lambda: {"setting": setting(), "log": ["b", "a"], "marks": [0]},
+        "is_harmless": lambda: {"setting": setting(), "log": ["b", "a"], "marks": [0]},
+        "many_days": lambda: {"log": ["x", "y"], "marks": [0, 1], "number": 2},
+        "costliest": lambda: {"log": ["x", "y"], "marks": [0], "number": 2},
+        "is_costliest": lambda: {"log": ["x", "y"], "marks": [0], "number": 2, "value": [2, 2]},
+    },
+    "kindtwice.papers": {
+        "kinds_text": lambda: {"kinds": Kinds(dict(ONE))},
+        "read_kinds": lambda: {"text": "k k = k"},
+        "setting_text": lambda: {"setting": single()},
+        "read_setting": lambda: {"text": "k k = k\ndeeds\na k\nb k\ntwice k"},
+        "logs_text": lambda: {"logs": [["a", "b"], []]},
+        "read_logs": lambda: {"text": "a b\n-"},
+    },
+    "kindtwice.desk": {
+        "Desk": lambda: {"setting": setting()},
+        "replayed": lambda: {"desk": busy(), "record": [("fall",), ("do", "b")]},
+    },
+    "kindtwice.scripts": {
+        "play": lambda: {"desk": busy(), "script": [("try", [("undo",), ("do", "b"), ("mark",)])]},
+        "script_text": lambda: {"script": [("do", "a"), ("try", [("mark",)])]},
+        "read_script": lambda: {"text": "do a\ntry\n  mark\nend"},
+        "end_of": lambda: {"setting": setting(), "script": [("do", "a"), ("fall",), ("mark",)]},
+        "needless": lambda: {"setting": setting(), "script": [("do", "a"), ("fall",), ("mark",)]},
+    },
 }
 WANTED = {
     "put_all": "odd", "own_squares": ["even"], "power": "odd", "own_power": 2, "coming_back": (1, 2), "is_bare": True,
@@ -186,6 +267,20 @@ WANTED = {
     "behind": "off", "behind_all": {"off": "on", "on": "off"}, "is_typed": True, "untyped": None, "is_untyped": True,
     "least_untyped": 1, "typed_kinds": ["even"], "same_in": True, "parted_states": ["off", "on"],
     "both_names": {"a": ("off", "off"), "b": ("off", "on"), "c": ("on", "off"), "d": ("on", "on")},
+    "least": ["b", "a"], "least_logs": [["a"], ["b"], ["a", "b"], ["b", "a"], ["a", "b", "a"], ["b", "a", "b"]],
+    "many_unlike": 185, "alike_logs": [["b", "a"], ["b", "b", "a"]], "coming_logs": (2, 2),
+    "own_names": {"a": [], "b": ["a"], "c": ["b"], "d": ["a", "b"], "e": ["b", "a"], "f": ["a", "b", "a"],
+                  "g": ["b", "a", "b"]},
+    "is_telling": True, "least_states": [[], ["b"], ["a", "b"], ["b", "a", "b"]], "are_marks": True,
+    "is_covered": True, "open_points": [(0, 2)], "reach": 2, "fewest_marks": 2, "any_marks": [0, 2],
+    "are_fewest": True, "bounds": {0: 0, 1: 1, 2: 1, 3: 2}, "are_bounds": True, "many_fewest": 1, "marks_at": [0, 2],
+    "sure_marks": [0, 2], "is_day": True, "begins": [0, 2], "done_log": ["x", "x", "y"], "many_done": 3,
+    "chain_back": [["b", "b", "a"], ["b", "a"]], "is_chain_back": True, "harmful_falls": [2], "is_harmless": False,
+    "many_days": 7, "costliest": [2, 2], "is_costliest": True, "kinds_text": "k k = k",
+    "setting_text": "k k = k\ndeeds\na k\nb k\ntwice k", "logs_text": "a b\n-", "read_logs": [["a", "b"], []],
+    "play": [("tried", [("told", None), ("told", None), ("refused", "Refused")])],
+    "script_text": "do a\ntry\n  mark\nend", "read_script": [("do", "a"), ("try", [("mark",)])],
+    "end_of": (["a"], [0], [1]), "needless": [2],
 }
 # The error of each argument, wherever it stands; `value` is judged.
 ERRORS = {"table": InvalidTable, "kinds": InvalidKinds, "row": InvalidKinds, "kind": InvalidKind,
@@ -195,7 +290,11 @@ ERRORS = {"table": InvalidTable, "kinds": InvalidKinds, "row": InvalidKinds, "ki
           ("shortened", "row"): InvalidRow, "one": InvalidLog, "other": InvalidLog, "moves": InvalidMoves,
           "store": InvalidStore, "state": InvalidState, ("both_stores", "one"): InvalidStore,
           ("both_stores", "other"): InvalidStore, ("both_names", "one"): InvalidStore,
-          ("both_names", "other"): InvalidStore}
+          ("both_names", "other"): InvalidStore, "marks": InvalidMarks, "point": InvalidPlace, "falls": InvalidFalls,
+          "text": InvalidText, "logs": InvalidLogs, "desk": InvalidDesk, "record": InvalidRecord,
+          "script": InvalidScript}
+# The empty list has a text, and a list of an empty log is one of logs.
+RIGHT_ONES = [("read_logs", ""), ("read_script", ""), ("logs_text", [[]])]
 
 
 def error_of(function, argument):
@@ -228,7 +327,7 @@ class Interface(unittest.TestCase):
             for method, names in methods.items():
                 self.assertIn(method, vars(made))
                 self.assertEqual(list(inspect.signature(getattr(made, method)).parameters)[1:], names)
-            self.assertIn("__eq__", vars(made))
+            self.assertEqual("__eq__" in vars(made), name not in WITHOUT_EQUALS)
 
     def test_arguments_have_the_names_of_the_interface_in_its_order(self):
         for _, name, function, made in all_functions():
@@ -275,6 +374,8 @@ class Calls(Case):
                 if name == "value":
                     continue
                 for wrong in (None, True, False, -1, "", (), {None: 0}, [[]], ["Odd"]):
+                    if (called, wrong) in RIGHT_ONES:
+                        continue
                     args = made()
                     for later in names[at:]:
                         args[later] = wrong

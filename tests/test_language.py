@@ -128,6 +128,49 @@ class Language(unittest.TestCase):
                     self.assertEqual(sorted(set(methods)), sorted(methods), name)
                     self.assertEqual(held & set(methods), set(), name)
 
+    def test_l6_blocks_are_left_by_plain_rows(self):
+        for name, tree in trees():
+            for made in ast.walk(tree):
+                if isinstance(made, ast.FunctionDef) and made.name == "__exit__":
+                    for row in made.body:
+                        self.assertIsInstance(row, ast.Assign, name)
+                        self.assertIsInstance(row.value, ast.Attribute, name)
+                        self.assertEqual(len(row.targets), 1, name)
+
+    def test_l19_errors_are_caught_by_own_names(self):
+        own = {one.name for _, tree in trees() for one in tree.body if isinstance(one, ast.ClassDef)}
+        for name, tree in trees():
+            for node in ast.walk(tree):
+                if isinstance(node, ast.ExceptHandler):
+                    caught = node.type.elts if isinstance(node.type, ast.Tuple) else [node.type]
+                    self.assertLessEqual({one.id for one in caught}, own, name)
+                if isinstance(node, ast.Raise):
+                    self.assertIsInstance(node.exc, ast.Call, name)
+                    self.assertIn(node.exc.func.id, own, name)
+                if isinstance(node, ast.Try):
+                    self.assertEqual(node.finalbody, [], name)
+
+    def test_l2_the_library_is_called_by_its_bare_names(self):
+        for name, tree in trees():
+            taken = {alias.name for node in tree.body if isinstance(node, ast.ImportFrom)
+                     and node.module in LIBRARY for alias in node.names}
+            called = [node.func for node in ast.walk(tree) if isinstance(node, ast.Call)]
+            for node in ast.walk(tree):
+                if isinstance(node, ast.Name) and node.id in taken:
+                    self.assertIn(node, called, name)
+
+    def test_l23_what_a_loop_goes_over_is_not_changed_in_it(self):
+        changing = ("append", "extend", "pop", "remove", "insert", "clear", "update")
+        for name, tree in trees():
+            for loop in ast.walk(tree):
+                if isinstance(loop, ast.For) and isinstance(loop.iter, (ast.Name, ast.Attribute)):
+                    gone = ast.dump(loop.iter)
+                    for node in ast.walk(ast.Module(loop.body, [])):
+                        if isinstance(node, ast.Call) and isinstance(node.func, ast.Attribute):
+                            self.assertFalse(node.func.attr in changing and ast.dump(node.func.value) == gone, name)
+                        if isinstance(node, ast.Subscript) and not isinstance(node.ctx, ast.Load):
+                            self.assertNotEqual(ast.dump(node.value), gone, name)
+
     def test_l24_sets_are_not_iterated(self):
         for name, tree in trees():
             for node in ast.walk(tree):

@@ -4,17 +4,28 @@ import time
 import unittest
 
 from kindtwice.alike import are_alike, difference, is_difference
+from kindtwice.desk import Desk, replayed
 from kindtwice.doublings import (all_squeezed, doublings, fewest_halvings, halvings, is_chain, is_squeezed,
                                  is_squeezing, most_halvings, squeezing)
 from kindtwice.endless import counting_store
+from kindtwice.falls import (chain_back, costliest, done_log, harmful_falls, is_chain_back, is_costliest, is_harmless,
+                             many_days, many_done)
 from kindtwice.kinds import Kinds
 from kindtwice.looks import hardest_stretch, is_hardest_stretch, least_looks, most_looks
+from kindtwice.marks import (any_marks, are_bounds, are_fewest, bounds, fewest_marks, is_covered, many_fewest, marks_at,
+                             open_points, reach, sure_marks)
+from kindtwice.papers import logs_text, read_logs, read_setting, setting_text
 from kindtwice.rows import is_longest_row, is_scarce_row, longest_row, scarce_row
 from kindtwice.settings import Setting
+from kindtwice.scripts import end_of, needless, play, read_script, script_text
+from kindtwice.small import alike_logs, coming_logs, least, least_logs, many_unlike
 from kindtwice.stores import Store, both_stores, is_typed, is_untyped, least_untyped, typed_kinds, untyped
+from kindtwice.telling import is_telling, least_states, own_names, own_store, telling
 from kindtwice.trees import (are_heights, heights, is_least_tree, is_low_tree, is_tall_row, least_tree, low_tree,
                              tall_row)
 from tests.helping import CHAIN, CORNERS, FIRST_STAYS, KLEIN, LONG, ONE, PARITY, Case, once_again, words_of
+from tests.test_marks import CHOICES
+from tests.test_small import COUNTS
 
 SECONDS = 10
 TABLES = (ONE, PARITY, FIRST_STAYS, CHAIN, CORNERS, KLEIN, LONG, once_again(1, 3), once_again(4, 1))
@@ -136,6 +147,84 @@ class InTime(Case):
         setting = widest(CHAIN, [])
         for deed in setting.deeds():
             self.assertEqual(len(self.quickly(counting_store, setting, deed, 60).states()), 62)
+
+    def test_small_settings(self):
+        for setting, many in COUNTS:
+            logs = [[list(setting.deeds())[0]] * 60, mixed(setting, 60), mixed(setting, 59, 3)]
+            self.assertEqual(self.quickly(many_unlike, setting), many)
+            self.assertEqual(len(self.quickly(least_logs, setting)), many)
+            self.assertEqual(len(self.quickly(own_store, setting).states()), many + 1)
+            self.assertEqual(len(self.quickly(own_names, setting)), many + 1)
+            for log in logs:
+                own = self.quickly(least, setting, log)
+                told = self.quickly(alike_logs, setting, log, 10)
+                self.assertEqual(own in told, len(own) <= 10)
+                self.quickly(coming_logs, setting, log)
+                self.quickly(least_states, setting, log, logs[1])
+                value = self.quickly(telling, setting, log, logs[1])
+                self.assertEqual(self.quickly(is_telling, setting, log, logs[1], value), value is not None)
+                if value is not None:
+                    value = (own_store(setting), "a")
+                    self.assertTrue(self.quickly(is_telling, setting, log, logs[1], value))
+                marks = any_marks(setting, log)
+                self.assertEqual(self.quickly(harmful_falls, setting, log, marks), [])
+                self.quickly(is_harmless, setting, log, [0])
+
+    def test_marks_of_sixty_deeds(self):
+        for setting in [widest(table) for table in TABLES] + [widest(CHAIN, ["aa"]), CHOICES]:
+            for log in (mixed(setting, 60), ["a"] * 60, ["b", "a"] * 30):
+                most = self.quickly(fewest_marks, setting, log)
+                marks = self.quickly(any_marks, setting, log)
+                self.assertTrue(self.quickly(are_fewest, setting, log, marks))
+                self.assertTrue(self.quickly(is_covered, setting, log, marks))
+                self.assertEqual(self.quickly(open_points, setting, log, marks), [])
+                self.assertLessEqual(len(self.quickly(open_points, setting, log, [0])), 60)
+                value = self.quickly(bounds, setting, log)
+                self.assertEqual(value[61], most)
+                self.assertTrue(self.quickly(are_bounds, setting, log, value))
+                many = self.quickly(many_fewest, setting, log)
+                self.assertTrue(are_fewest(setting, log, self.quickly(marks_at, setting, log, many - 1)))
+                self.assertLessEqual(len(self.quickly(sure_marks, setting, log)), most)
+                for point in (0, 30, 60):
+                    self.quickly(reach, setting, log, point)
+
+    def test_days_of_twelve_falls(self):
+        for setting in [widest(table) for table in TABLES]:
+            for log in (mixed(setting, 60), ["a"] * 60):
+                for marks in ([0], list(range(0, 60, 3)), any_marks(setting, log)):
+                    self.assertGreaterEqual(self.quickly(many_days, log, marks, 12), 61)
+                    falls = self.quickly(costliest, log, marks, 12)
+                    self.assertTrue(self.quickly(is_costliest, log, marks, 12, falls))
+                    self.assertEqual(len(self.quickly(done_log, log, marks, falls)), many_done(log, marks, falls))
+                    if is_covered(setting, log, marks):
+                        chain = self.quickly(chain_back, setting, log, marks, falls)
+                        self.assertTrue(self.quickly(is_chain_back, setting, log, marks, falls, chain))
+
+    def test_a_desk_of_a_hundred_commands(self):
+        setting = widest(PARITY)
+        script = ([("do", "b")] * 4 + [("mark",), ("do", "a"), ("fall",), ("do", "a"), ("go_on",), ("undo",)]) * 10
+        desk = Desk(setting)
+        self.quickly(play, desk, script)
+        record = desk.record()
+        for _ in range(10):
+            desk = self.quickly(replayed, Desk(setting), record)
+        self.assertEqual(desk.record(), record)
+        self.quickly(desk.why_not)
+        desk.go_on()
+        self.quickly(desk.next_mark, ["a"] * 10)
+
+    def test_scripts_and_texts(self):
+        script = [("do", "a"), ("try", [("mark",), ("try", [("fall",), ("try", [("try", [("undo",)]), ("redo",)])])]),
+                  ("go_on",), ("fall",), ("do", "a")]
+        for table in TABLES:
+            setting = widest(table)
+            self.quickly(end_of, setting, script)
+            self.quickly(needless, setting, script)
+            self.assertTrue(self.quickly(read_setting, setting_text(setting)) == setting)
+        lines = script * 20
+        self.assertEqual(self.quickly(read_script, script_text(lines)), lines)
+        logs = [["abcdefgh"] * 44] * 250
+        self.assertEqual(self.quickly(read_logs, logs_text(logs)), logs)
 
 
 if __name__ == "__main__":
